@@ -1,0 +1,1 @@
+"""Suredue: payments between people who need not trust each other."""

@@ -1,0 +1,40 @@
+"""What all files share: judging plain values, places, and lists given for tuples."""
+
+from suredue.errors import NoPlace
+
+
+def is_number(thing):
+    """Whether thing is a number."""
+    # Python takes True and False for ints; here they are no numbers.
+    return isinstance(thing, int) and not isinstance(thing, bool)
+
+
+def is_from(thing, least):
+    """Whether thing is a number that is at least least."""
+    return is_number(thing) and thing >= least
+
+
+def is_tuple_of(thing, many):
+    """Whether thing is a tuple of so many parts."""
+    return isinstance(thing, tuple) and len(thing) == many
+
+
+def are_unlike(values):
+    """Whether no two of values, numbers or strings, are equal."""
+    return len(set(values)) == len(values)
+
+
+def frozen(value):
+    """The value with a tuple for each list in it, at any depth."""
+    # Results are made of tuples, and a list never equals a tuple, so whatever is compared or returned comes here first.
+    if isinstance(value, (list, tuple)):
+        return tuple([frozen(part) for part in value])
+    return value
+
+
+def at_place(row, place):
+    """What row has at this place; NoPlace(place) if it has none such."""
+    # Python would count a place below 0 from the end.
+    if not 0 <= place < len(row):
+        raise NoPlace(place)
+    return row[place]

@@ -1,0 +1,43 @@
+"""The names and arguments of the interface."""
+
+import ast
+import importlib
+import inspect
+import pathlib
+import unittest
+
+import interface
+import suredue
+
+PACKAGE = pathlib.Path(suredue.__file__).parent
+
+
+class Interface(unittest.TestCase):
+    def test_number_of_functions(self):
+        self.assertEqual([len(interface.FILES[name]) for name in ("sheets", "ledger", "settling")], [18, 12, 8])
+
+    def test_functions_have_their_arguments(self):
+        for file, functions in interface.FILES.items():
+            module = importlib.import_module(f"suredue.{file}")
+            for name, args in functions.items():
+                parameters = inspect.signature(getattr(module, name)).parameters
+                self.assertEqual(list(parameters), args, name)
+                for parameter in parameters.values():
+                    self.assertIs(parameter.kind, inspect.Parameter.POSITIONAL_OR_KEYWORD, name)
+                    self.assertIs(parameter.default, inspect.Parameter.empty, name)
+
+    def test_functions_are_defined_in_their_file(self):
+        for file, functions in interface.FILES.items():
+            tree = ast.parse((PACKAGE / f"{file}.py").read_text(encoding="utf-8"))
+            defined = [part.name for part in tree.body if isinstance(part, ast.FunctionDef)]
+            for name in functions:
+                self.assertEqual(defined.count(name), 1, name)
+
+    def test_errors_are_defined_in_their_file(self):
+        tree = ast.parse((PACKAGE / "errors.py").read_text(encoding="utf-8"))
+        defined = [part.name for part in tree.body if isinstance(part, ast.ClassDef)]
+        self.assertEqual(sorted(defined), ["BadText", "CanNot", "NoPlace", "TooMuch", "Unfit"])
+
+
+if __name__ == "__main__":
+    unittest.main()

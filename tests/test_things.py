@@ -1,0 +1,259 @@
+"""What judges a thing: values that are right, and such as are bent in one place."""
+
+import unittest
+
+import made_up
+import plain
+from suredue import ledger, sheets
+from support import DEEP, NO_NUMBER, NO_TUPLE, bends, nested, put, wrong_kinds
+
+NET = ((0, 1, 50, 30), (1, 2, 20, 20), (5, 0, 0, 0))
+IMAGE = ("image", 7)
+LOCKS = ((0, 10, ("image", 7), 20), (1, 10, ("image", 8), 15))
+PAGE = (0, 3, (30, 30), LOCKS)
+FIRST = (1, 0, (20, 20), ())
+SHUT = (PAGE, 4, ((7, 4), (9, 4), (8, 6)))
+BIG = 10 ** 40
+
+RIGHT = {
+    sheets.is_person: (0, 1, 7, 8, BIG),
+    sheets.is_times: ((1, 1, 0), (3, 2, 4), (11, 12, 41), (BIG, BIG, BIG)),
+    sheets.is_channel: ((0, 1, 0, 0), (1, 0, 50, 30), (8, 9, BIG, BIG)),
+    sheets.is_net: (NET, NET[:1], NET * 40),
+    sheets.is_image: (("image", 0), IMAGE, ("image", BIG)),
+    sheets.is_lock: (LOCKS + ((0, 1, ("image", 0), 0), (1, BIG, ("image", BIG), BIG))),
+}
+
+RIGHT_IN_NET = {
+    sheets.is_sheet: (PAGE, FIRST, (1, 1, (20, 20), ()), (1, BIG, (40, 0), ()), (2, 5, (0, 0), ())),
+    ledger.is_deed: (("close", PAGE), ("close", FIRST), ("show", 0, 0), ("show", 2, BIG)),
+    ledger.is_ledger: ((None, None, None), (SHUT, None, None), (None, (FIRST, 0, ()), None), (SHUT, (FIRST, BIG, ()), None)),
+}
+
+PLAIN = {
+    sheets.is_person: plain.number,
+    sheets.is_times: plain.times,
+    sheets.is_channel: plain.channel,
+    sheets.is_net: plain.net,
+    sheets.is_image: plain.image,
+    sheets.is_lock: plain.lock,
+    sheets.is_sheet: plain.sheet,
+    ledger.is_deed: plain.deed,
+    ledger.is_ledger: plain.ledger,
+}
+
+
+def judged():
+    """Triples (function, arguments ahead of thing, right value)."""
+    for function, values in RIGHT.items():
+        for value in values:
+            yield function, (), value
+    for function, values in RIGHT_IN_NET.items():
+        for value in values:
+            yield function, (NET,), value
+
+
+class Things(unittest.TestCase):
+    def check(self, expected, function, ahead, thing):
+        told = function(*ahead, thing)
+        self.assertIs(told, expected, (function.__name__, ahead, thing))
+
+    def test_right_values(self):
+        for function, ahead, value in judged():
+            self.check(True, function, ahead, value)
+
+    def test_by_name_and_with_lists_for_the_net(self):
+        for function, ahead, value in judged():
+            if ahead:
+                self.check(True, function, ([list(part) for part in NET],), value)
+                self.assertIs(function(net=NET, thing=value), True)
+            else:
+                self.assertIs(function(thing=value), True)
+
+    def test_values_of_other_kinds(self):
+        for function, ahead, _ in judged():
+            for thing in NO_TUPLE + NO_NUMBER + DEEP:
+                wanted = function is sheets.is_person and thing.__class__ is int and thing >= 0
+                self.check(wanted, function, ahead, thing)
+
+    def test_one_part_of_a_wrong_kind(self):
+        for function, ahead, value in judged():
+            for thing in wrong_kinds(value):
+                self.check(False, function, ahead, thing)
+
+    def test_bent_in_one_place(self):
+        for function, ahead, value in judged():
+            for thing in bends(value):
+                self.check(PLAIN[function](*ahead, thing), function, ahead, thing)
+
+    def test_things_are_not_changed(self):
+        for function, ahead, value in judged():
+            for thing in bends(value):
+                kept = repr(thing)
+                function(*ahead, thing)
+                self.assertEqual(repr(thing), kept)
+
+    def test_nested_a_hundred_levels(self):
+        for function, ahead, value in judged():
+            for kind in (tuple, list):
+                self.check(False, function, ahead, nested(100, value, kind))
+
+    def test_made_up_values(self):
+        for seed in range(60):
+            make, net, times, pages, sealed = made_up.world(seed)
+            self.check(True, sheets.is_net, (), net)
+            self.check(True, sheets.is_times, (), times)
+            there = (None,) * len(net)
+            for moment in range(1, 5):
+                there = plain.behind(net, there, times, moment, made_up.row(make, net, pages), sealed)
+                self.check(True, ledger.is_ledger, (net,), there)
+            for page in pages[:2]:
+                self.check(True, sheets.is_sheet, (net,), page)
+                for thing in bends(page):
+                    self.check(plain.sheet(net, thing), sheets.is_sheet, (net,), thing)
+            if seed < 12:
+                for thing in bends(there):
+                    self.check(plain.ledger(net, thing), ledger.is_ledger, (net,), thing)
+
+
+class Persons(unittest.TestCase):
+    def test_wrong(self):
+        for thing in NO_NUMBER + (1.0, b"1", {}):
+            self.assertIs(sheets.is_person(thing), False)
+
+
+class Channels(unittest.TestCase):
+    def test_wrong(self):
+        for thing in ((1, 1, 5, 5), (0, 1, -1, 5), (0, 1, 5, -1), (-1, 1, 5, 5), (0, -1, 5, 5), (0, 1, 5), (0, 1, 5, 5, 5)):
+            self.assertIs(sheets.is_channel(thing), False)
+            self.assertIs(sheets.is_net((thing,)), False)
+            self.assertIs(sheets.is_net(NET + (thing,)), False)
+
+    def test_nets(self):
+        for thing in ((), NET[0], list(NET), (list(NET[0]),), (NET,)):
+            self.assertIs(sheets.is_net(thing), False)
+
+
+class Times(unittest.TestCase):
+    def test_too_low(self):
+        for thing in ((0, 1, 4), (1, 0, 4), (1, 1, -1), (1, 1), (1, 1, 1, 1), [1, 1, 1]):
+            self.assertIs(sheets.is_times(thing), False)
+
+
+class Locks(unittest.TestCase):
+    def test_wrong(self):
+        for thing in (
+            (2, 10, IMAGE, 20),
+            (-1, 10, IMAGE, 20),
+            (0, 0, IMAGE, 20),
+            (0, 10, IMAGE, -1),
+            (False, 10, IMAGE, 20),
+            (0, True, IMAGE, 20),
+            (0, 10, 7, 20),
+            (0, 10, ["image", 7], 20),
+            (0, 10, ("image", -1), 20),
+            (0, 10, ("image", True), 20),
+            (0, 10, ("secret", 7), 20),
+            (0, 10, ("image", 7, 8), 20),
+            (0, 10, IMAGE),
+            (0, 10, IMAGE, 20, 20),
+        ):
+            self.assertIs(sheets.is_lock(thing), False, thing)
+            self.assertIs(sheets.is_sheet(NET, (0, 3, (70, 0), (thing,))), False, thing)
+
+
+class Sheets(unittest.TestCase):
+    def test_wrong(self):
+        for thing in (
+            put(PAGE, (0,), 1),
+            put(PAGE, (0,), 3),
+            put(PAGE, (0,), -1),
+            put(PAGE, (0,), False),
+            # Counted from the end it would fit.
+            (-1, 5, (0, 0), ()),
+            (-2, 5, (20, 20), ()),
+            put(PAGE, (1,), -1),
+            put(PAGE, (1,), 0),
+            put(PAGE, (1,), True),
+            put(PAGE, (2,), (30, 31)),
+            put(PAGE, (2,), (29, 30)),
+            put(PAGE, (2,), (61, -1)),
+            put(PAGE, (2,), (30, 30, 0)),
+            put(PAGE, (2,), (60,)),
+            put(PAGE, (3,), list(LOCKS)),
+            put(PAGE, (3,), LOCKS[:1]),
+            put(PAGE, (3,), ()),
+            put(PAGE, (3,), LOCKS[0]),
+            (0, 3, (30, 30), (LOCKS[0], (1, 10, IMAGE, 15))),
+            (0, 3, (30, 30), (LOCKS[0], LOCKS[0])),
+            (0, 0, (40, 40), ()),
+            (0, 0, (40, 30), ((0, 10, IMAGE, 20),)),
+            (1, 0, (21, 19), ()),
+        ):
+            self.assertIs(sheets.is_sheet(NET, thing), False, thing)
+            self.assertIs(ledger.is_deed(NET, ("close", thing)), False, thing)
+            self.assertIs(ledger.is_ledger(NET, ((thing, 4, ()), None, None)), False, thing)
+
+    def test_more_than_the_bounds(self):
+        many = tuple((at % 2, 1, ("image", at), 600) for at in range(50))
+        self.assertIs(sheets.is_sheet(NET, (0, 3, (15, 15), many)), True)
+        self.assertIs(sheets.is_sheet(NET, (0, 3, (15, 15), many[:49] + many[:1])), False)
+        self.assertIs(sheets.is_sheet(((9, 8, BIG, 1),) * 30, (29, BIG, (1, BIG), ())), True)
+
+
+class Ledgers(unittest.TestCase):
+    def test_deeds_wrong(self):
+        for thing in (
+            (),
+            ("close",),
+            ("show", 0),
+            ("close", PAGE, 0),
+            ("show", PAGE),
+            ("close", 0, 7),
+            ("show", 3, 7),
+            ("show", -1, 7),
+            ("show", 0, -1),
+            ("show", True, 7),
+            ("show", 0, False),
+            ("show", 0, IMAGE),
+            ["show", 0, 7],
+            ("close", list(PAGE)),
+            ("open", PAGE),
+            (("show", 0, 7),),
+            None,
+        ):
+            self.assertIs(ledger.is_deed(NET, thing), False, thing)
+
+    def test_ledgers_wrong(self):
+        for entry in (
+            (PAGE, 4),
+            (PAGE, 4, (), ()),
+            (PAGE, -1, ()),
+            (PAGE, True, ()),
+            (PAGE, None, ()),
+            (FIRST, 4, ()),
+            (None, 4, ()),
+            (PAGE, 4, None),
+            (PAGE, 4, ((7, 3),)),
+            (PAGE, 4, ((7, 5), (8, 4))),
+            (PAGE, 4, ((7, 5), (7, 6))),
+            (PAGE, 4, ((7, 5), (8, 5), (7, 5))),
+            (PAGE, 4, ((-1, 5),)),
+            (PAGE, 4, ((7, True),)),
+            (PAGE, 4, ((7, 5, 0),)),
+            (PAGE, 4, ((7,),)),
+            (PAGE, 4, (7, 5)),
+            (PAGE, 4, ([7, 5],)),
+            (PAGE, 4, [(7, 5)]),
+            [PAGE, 4, ()],
+            (),
+            0,
+            False,
+        ):
+            self.assertIs(ledger.is_ledger(NET, (entry, None, None)), False, entry)
+        for thing in ((), (None,), (None, None), (None,) * 4, [None] * 3, None, SHUT, (None, SHUT, None)):
+            self.assertIs(ledger.is_ledger(NET, thing), False, thing)
+
+
+if __name__ == "__main__":
+    unittest.main()
