@@ -2,7 +2,7 @@
 
 from suredue.errors import CanNot
 from suredue.sheets import first_sheet, has, is_opened, is_sheet
-from suredue.values import are_unlike, at_place, frozen, is_from, is_tuple_of
+from suredue.values import are_unlike, ascending, at_place, frozen, is_below, is_from, is_tuple_of, with_part
 
 
 def is_deed(net, thing):
@@ -10,7 +10,7 @@ def is_deed(net, thing):
     if is_tuple_of(thing, 2):
         return thing[0] == "close" and is_sheet(net, thing[1])
     if is_tuple_of(thing, 3):
-        return thing[0] == "show" and is_from(thing[1], 0) and thing[1] < len(net) and is_from(thing[2], 0)
+        return thing[0] == "show" and is_below(thing[1], len(net)) and is_from(thing[2], 0)
     return False
 
 
@@ -45,7 +45,7 @@ def is_ledger(net, thing):
 
 def persons(net):
     """The set of the PERSONS of the CHANNELS of net."""
-    return tuple(sorted(set([person for channel in net for person in channel[:2]])))
+    return ascending([person for channel in net for person in channel[:2]])
 
 
 def begun_ledger(net):
@@ -75,13 +75,13 @@ def _behind(net, ledger, times, moment, deed, sealed):
             return ledger
         # Who replaces a SHEET wins no time: the moment of the first close stays.
         fresh = (sheet, moment, ()) if entry is None else (sheet, entry[1], entry[2])
-        return ledger[:sheet[0]] + (fresh,) + ledger[sheet[0] + 1:]
+        return with_part(ledger, sheet[0], fresh)
     channel, secret = deed[1:]
     entry = at_place(ledger, channel)
     if entry is None or was_shown(entry[2], secret):
         return ledger
     fresh = (entry[0], entry[1], entry[2] + ((secret, moment),))
-    return ledger[:channel] + (fresh,) + ledger[channel + 1:]
+    return with_part(ledger, channel, fresh)
 
 
 def does(net, ledger, times, moment, deed, sealed):

@@ -1,6 +1,6 @@
 """Channels, locks and sheets."""
 
-from suredue.values import are_unlike, at_place, frozen, is_from, is_tuple_of
+from suredue.values import are_unlike, at_place, frozen, is_below, is_from, is_tuple_of
 
 
 def is_person(thing):
@@ -33,7 +33,7 @@ def is_lock(thing):
     if not is_tuple_of(thing, 4):
         return False
     payer, amount, image, end = thing
-    return is_from(payer, 0) and payer <= 1 and is_from(amount, 1) and is_image(image) and is_from(end, 0)
+    return is_below(payer, 2) and is_from(amount, 1) and is_image(image) and is_from(end, 0)
 
 
 def _are_locks(thing):
@@ -48,7 +48,7 @@ def is_sheet(net, thing):
     if not is_tuple_of(thing, 4):
         return False
     channel, number, sums, locks = thing
-    if not is_from(channel, 0) or channel >= len(net) or not is_from(number, 0):
+    if not is_below(channel, len(net)) or not is_from(number, 0):
         return False
     if not is_tuple_of(sums, 2) or not is_from(sums[0], 0) or not is_from(sums[1], 0) or not _are_locks(locks):
         return False

@@ -14,9 +14,19 @@ def is_from(thing, least):
     return is_number(thing) and thing >= least
 
 
+def is_below(thing, many):
+    """Whether thing is one of the numbers from 0 that are below many: a place in a row of so many."""
+    return is_from(thing, 0) and thing < many
+
+
 def is_tuple_of(thing, many):
     """Whether thing is a tuple of so many parts."""
     return isinstance(thing, tuple) and len(thing) == many
+
+
+def are_from(thing, least):
+    """Whether thing is a tuple, maybe (), of numbers that are at least least."""
+    return isinstance(thing, tuple) and all([is_from(part, least) for part in thing])
 
 
 def are_unlike(values):
@@ -38,3 +48,13 @@ def at_place(row, place):
     if not 0 <= place < len(row):
         raise NoPlace(place)
     return row[place]
+
+
+def with_part(row, place, part):
+    """The tuple row with part at this place."""
+    return row[:place] + (part,) + row[place + 1:]
+
+
+def ascending(values):
+    """The set of values: an ascending tuple without duplicates."""
+    return tuple(sorted(set(values)))

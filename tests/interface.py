@@ -21,6 +21,31 @@ is_late(net, ledger, times, channel, moment, sealed, thing),
 between(net, ledger, times, channel, moment, sealed, secrets), all_by(ledger, times, moment, sealed)
 """
 
+LETTERS = """
+is_letter(net, thing), channel_of(letter), net_text(net), times_text(times), sheet_text(sheet), letters_text(letters),
+deeds_text(deeds), wishes_text(wishes), plan_text(plan), net_read(text), times_read(text), sheet_read(text),
+letters_read(text), deeds_read(text), wishes_read(text), plan_read(text)
+"""
+
+OFFERS = """
+is_change(thing), is_book(net, thing), changed(sheet, side, change), change_of(sheet, side, other),
+begun_book(net, channel, side), in_turn(book), wanting(book, change), wanting_just(book, changes), taken(book, letter),
+book_at_look(book), exposed(book), go_together(book, far)
+"""
+
+CLOCKS = """
+least_wait(delay, look), enough_wait(times), show_by(times, end), close_by(times, end), in_time(times, moment, end),
+least_in_end(times, out_end), enough_gap(times, in_end, out_end), go_by(times, in_end, out_end),
+least_ends(times, many, last), begin_by(times, ends), settled_by(times, moment, ends)
+"""
+
+WATCH = """
+is_watcher(thing), next_look(watcher, moment), answered_at(watchers, moment), wait_wanted(watchers),
+worst_moment(watchers), is_enough(watchers, wait), needless(watchers), fewest(watchers, wait),
+too_little(watchers, wait), is_too_little(watchers, wait, thing),
+ledger_behind(net, times, elder, newest, moment, watchers, lates)
+"""
+
 
 def functions_of(text):
     """The dict of the names of the functions and the lists of their arguments."""
@@ -31,4 +56,12 @@ def functions_of(text):
     return found
 
 
-FILES = {"sheets": functions_of(SHEETS), "ledger": functions_of(LEDGER), "settling": functions_of(SETTLING)}
+FILES = {
+    "sheets": functions_of(SHEETS),
+    "ledger": functions_of(LEDGER),
+    "settling": functions_of(SETTLING),
+    "letters": functions_of(LETTERS),
+    "offers": functions_of(OFFERS),
+    "clocks": functions_of(CLOCKS),
+    "watch": functions_of(WATCH),
+}

@@ -188,3 +188,98 @@ def far_end(there, limits, sealed, place):
     """A moment behind which nothing can change for a closed channel."""
     ends = [one[3] for page in (there[0],) + tuple(sealed) if page[0] == place for one in page[3]]
     return max([there[1] + limits[2]] + ends) + 2
+
+
+def place(of, thing):
+    return number(thing, 0, len(of) - 1)
+
+
+def letter(of, thing):
+    """Whether thing is a LETTER, word by word."""
+    at_sheet, at_place = (lambda part: sheet(of, part)), (lambda part: place(of, part))
+    if row_of(thing, word("pass"), at_place, image, lambda part: True, lambda part: True):
+        route, ends = thing[3:]
+        return many_of(route, at_place) and many_of(ends, number) and len(route) == len(ends)
+    return (
+        row_of(thing, word("offer"), at_sheet)
+        or row_of(thing, word("agree"), at_sheet)
+        or row_of(thing, word("turn"), at_place, number)
+        or row_of(thing, word("secret"), at_place, number)
+    )
+
+
+def change(thing):
+    return (
+        row_of(thing, word("pass"))
+        or row_of(thing, word("add"), lock)
+        or row_of(thing, word("pay"), image)
+        or row_of(thing, word("drop"), image)
+    )
+
+
+def changed(page, who, what):
+    """The SHEET that comes of page by the CHANGE what of SIDE who; None if it can't be done."""
+    place_of, age, sums, locks = page
+    sums, locks = list(sums), list(locks)
+    if what[0] == "add":
+        if what[1][0] != who or any(one[2] == what[1][2] for one in locks):
+            return None
+        sums[who] -= what[1][1]
+        locks.append(what[1])
+        if sums[who] < 0 or len(locks) > 8:
+            return None
+    if what[0] in ("pay", "drop"):
+        payer = who if what[0] == "pay" else 1 - who
+        gone = [one for one in locks if one[2] == what[1] and one[0] == payer]
+        if not gone:
+            return None
+        locks.remove(gone[0])
+        # Whoever it is that offers, the amount is the other one's then.
+        sums[1 - who] += gone[0][1]
+    return (place_of, age + 1, tuple(sums), tuple(locks))
+
+
+def all_changes(page, other):
+    """All CHANGES that could lead from page to other."""
+    images = [one[2] for one in page[3] + other[3]]
+    return (
+        [("pass",)]
+        + [("add", one) for one in other[3]]
+        + [(what, one) for what in ("pay", "drop") for one in images]
+    )
+
+
+def book(of, thing):
+    """Whether thing is a BOOK."""
+    whatever = (lambda part: True)
+    judges = (lambda part: place(of, part), side, lambda part: sheet(of, part), whatever, whatever, whatever)
+    if not row_of(thing, *judges) or not many_of(thing[5], change) or thing[4] not in (True, False):
+        return False
+    channel_of, who, newest, offered, asked, _ = thing
+    if newest[0] != channel_of or asked.__class__ is not bool:
+        return False
+    turn = (newest[1] + 1) % 2 == who
+    if asked and not turn or asked and offered is not None:
+        return False
+    if offered is None:
+        return True
+    return turn and sheet(of, offered) and offered in [changed(newest, who, what) for what in all_changes(newest, offered)]
+
+
+def watcher(thing):
+    return row_of(thing, from_one, number, from_one) and thing[1] < thing[0]
+
+
+def last_coming(one, moment):
+    """The last moment at which what a WATCHER hands in at its next look can come, by counting on."""
+    look = one[1]
+    while look < moment:
+        look += one[0]
+    return look + one[2]
+
+
+def late_pair(watchers, wait, thing):
+    if not watchers or not row_of(thing, from_one, lambda part: many_of(part, from_one)) or thing[0] > 10 ** 5:
+        return False
+    lasts = tuple(last_coming(one, thing[0]) for one in watchers)
+    return thing[1] == lasts and all(last > thing[0] + wait for last in lasts)

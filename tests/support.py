@@ -114,6 +114,10 @@ def wrong_kinds(value):
             yield put(value, path, (None,) + part)
             for other in (True, False, 0, 1, "", "ab", -1) + DEEP:
                 yield put(value, path, other)
+        elif isinstance(part, bool):
+            for other in NO_NUMBER + (0, 1):
+                if not isinstance(other, bool):
+                    yield put(value, path, other)
         elif isinstance(part, int):
             for other in NO_NUMBER:
                 yield put(value, path, other)

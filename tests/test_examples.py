@@ -4,10 +4,10 @@ import ast
 import pathlib
 import unittest
 
-from suredue import errors, ledger, settling, sheets
+from suredue import clocks, errors, ledger, letters, offers, settling, sheets, watch
 
 FOLDER = pathlib.Path(__file__).parent / "examples"
-MODULES = (sheets, ledger, settling)
+MODULES = (sheets, ledger, letters, offers, clocks, settling, watch)
 
 
 def cases(text):
@@ -52,11 +52,12 @@ class Examples(unittest.TestCase):
                         self.check_error(code, expected, names)
                     else:
                         self.assertEqual(repr(eval(code, names)), expected)
-        self.assertEqual(seen, 32)
+        self.assertEqual(seen, 63)
 
     def test_each_section_is_there(self):
         self.assertEqual(
-            [path.stem for path in sorted(FOLDER.glob("*.txt"))], ["04_sheets", "05_ledger", "18_settling"]
+            [path.stem for path in sorted(FOLDER.glob("*.txt"))],
+            ["04_sheets", "05_ledger", "06_letters", "07_offers", "09_clocks", "18_settling", "19_watch"],
         )
 
 

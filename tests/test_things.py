@@ -1,11 +1,12 @@
 """What judges a thing: values that are right, and such as are bent in one place."""
 
+import inspect
 import unittest
 
 import made_up
 import plain
-from suredue import ledger, sheets
-from support import DEEP, NO_NUMBER, NO_TUPLE, bends, nested, put, wrong_kinds
+from suredue import ledger, letters, offers, sheets, watch
+from support import DEEP, NO_NUMBER, NO_TUPLE, bends, listed, nested, put, wrong_kinds
 
 NET = ((0, 1, 50, 30), (1, 2, 20, 20), (5, 0, 0, 0))
 IMAGE = ("image", 7)
@@ -14,6 +15,9 @@ PAGE = (0, 3, (30, 30), LOCKS)
 FIRST = (1, 0, (20, 20), ())
 SHUT = (PAGE, 4, ((7, 4), (9, 4), (8, 6)))
 BIG = 10 ** 40
+MORE = (0, 4, (25, 30), LOCKS + ((0, 5, ("image", 9), 11),))
+LESS = (0, 4, (30, 40), LOCKS[1:])
+WATCHERS = ((6, 0, 2), (4, 1, 3))
 
 RIGHT = {
     sheets.is_person: (0, 1, 7, 8, BIG),
@@ -22,12 +26,43 @@ RIGHT = {
     sheets.is_net: (NET, NET[:1], NET * 40),
     sheets.is_image: (("image", 0), IMAGE, ("image", BIG)),
     sheets.is_lock: (LOCKS + ((0, 1, ("image", 0), 0), (1, BIG, ("image", BIG), BIG))),
+    offers.is_change: (("pass",), ("add", LOCKS[0]), ("add", (1, BIG, ("image", BIG), 0)), ("pay", IMAGE), ("drop", IMAGE)),
+    watch.is_watcher: ((1, 0, 1), (6, 5, 2), (BIG, BIG - 1, BIG), (101, 0, 101)),
 }
 
 RIGHT_IN_NET = {
     sheets.is_sheet: (PAGE, FIRST, (1, 1, (20, 20), ()), (1, BIG, (40, 0), ()), (2, 5, (0, 0), ())),
     ledger.is_deed: (("close", PAGE), ("close", FIRST), ("show", 0, 0), ("show", 2, BIG)),
     ledger.is_ledger: ((None, None, None), (SHUT, None, None), (None, (FIRST, 0, ()), None), (SHUT, (FIRST, BIG, ()), None)),
+    letters.is_letter: (
+        ("offer", PAGE),
+        ("agree", FIRST),
+        ("turn", 0, 0),
+        ("secret", 2, BIG),
+        ("pass", 1, IMAGE, (), ()),
+        ("pass", 0, IMAGE, (1, 2, 2), (30, 0, BIG)),
+    ),
+    offers.is_book: (
+        (0, 0, PAGE, None, False, ()),
+        (0, 1, PAGE, None, False, (("drop", IMAGE), ("pass",), ("add", LOCKS[0]))),
+        (0, 0, PAGE, None, True, (("pay", ("image", 99)),)),
+        (0, 0, PAGE, MORE, False, ()),
+        (0, 0, PAGE, LESS, False, (("pass",),)),
+        (0, 0, PAGE, (0, 4, (30, 40), LOCKS[:1]), False, ()),
+        (1, 1, FIRST, (1, 1, (20, 20), ()), False, ()),
+        (1, 1, (1, BIG, (20, 20), ()), None, False, (("pass",),) * 20),
+        (1, 0, FIRST, None, False, (("pass",),)),
+    ),
+}
+
+# What else stands ahead of the thing.
+RIGHT_BEHIND = {
+    watch.is_too_little: (
+        ((WATCHERS, 5), (2, (8, 8))),
+        ((WATCHERS, 0), (5, (8, 8))),
+        ((WATCHERS[:1], 6), (1, (8,))),
+        ((WATCHERS[:1], 6), (601, (608,))),
+    ),
 }
 
 PLAIN = {
@@ -40,6 +75,11 @@ PLAIN = {
     sheets.is_sheet: plain.sheet,
     ledger.is_deed: plain.deed,
     ledger.is_ledger: plain.ledger,
+    letters.is_letter: plain.letter,
+    offers.is_change: plain.change,
+    offers.is_book: plain.book,
+    watch.is_watcher: plain.watcher,
+    watch.is_too_little: plain.late_pair,
 }
 
 
@@ -51,6 +91,9 @@ def judged():
     for function, values in RIGHT_IN_NET.items():
         for value in values:
             yield function, (NET,), value
+    for function, pairs in RIGHT_BEHIND.items():
+        for ahead, value in pairs:
+            yield function, ahead, value
 
 
 class Things(unittest.TestCase):
@@ -62,13 +105,13 @@ class Things(unittest.TestCase):
         for function, ahead, value in judged():
             self.check(True, function, ahead, value)
 
-    def test_by_name_and_with_lists_for_the_net(self):
+    def test_by_name_and_with_lists_ahead(self):
         for function, ahead, value in judged():
-            if ahead:
-                self.check(True, function, ([list(part) for part in NET],), value)
-                self.assertIs(function(net=NET, thing=value), True)
-            else:
-                self.assertIs(function(thing=value), True)
+            self.check(True, function, [listed(part) for part in ahead], value)
+            names = list(inspect.signature(function).parameters)
+            self.assertEqual(names[-1], "thing")
+            self.assertIs(function(**dict(zip(names, ahead + (value,)))), True)
+            self.assertIs(function(*ahead, **{"thing": value}), True)
 
     def test_values_of_other_kinds(self):
         for function, ahead, _ in judged():
