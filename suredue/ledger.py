@@ -58,6 +58,11 @@ def was_shown(shown, secret):
     return any([pair[0] == secret for pair in shown])
 
 
+def all_shown(ledger):
+    """The set of the SECRETS that were shown in whatever channel."""
+    return ascending([pair[0] for entry in ledger if entry is not None for pair in entry[2]])
+
+
 def _does_close(net, entry, times, moment, sheet, sealed):
     """Whether ("close", sheet), coming at moment to a channel of which the LEDGER tells entry, does something."""
     # SHEETS 0 are sealed without being told so.

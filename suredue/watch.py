@@ -5,7 +5,7 @@ from math import lcm
 
 from suredue.errors import CanNot, TooMuch
 from suredue.ledger import begun_ledger, comes
-from suredue.values import frozen, is_from, is_tuple_of
+from suredue.values import is_from, is_tuple_of
 
 _MOST_MOMENTS = 10000
 
@@ -109,8 +109,8 @@ def is_too_little(watchers, wait, thing):
 
 def ledger_behind(net, times, elder, newest, moment, watchers, lates):
     """The LEDGER behind all answers to elder, which comes at moment."""
-    sealed = frozen((elder, newest))
-    ledger = comes(net, begun_ledger(net), times, moment, (("close", sealed[0]),), sealed)
+    sealed = (elder, newest)
+    ledger = comes(net, begun_ledger(net), times, moment, (("close", elder),), sealed)
     for at in sorted([next_look(watchers[place], moment) + lates[place] for place in range(len(watchers))]):
-        ledger = comes(net, ledger, times, at, (("close", sealed[1]),), sealed)
+        ledger = comes(net, ledger, times, at, (("close", newest),), sealed)
     return ledger

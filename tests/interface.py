@@ -46,6 +46,30 @@ too_little(watchers, wait), is_too_little(watchers, wait, thing),
 ledger_behind(net, times, elder, newest, moment, watchers, lates)
 """
 
+RULES = """
+worth(keep, side, sheet), loss(keep, side, sheet, change), gives(keep, side, sheet, change),
+may_open(times, moment, side, image, sheets, opened), passes(times, moment, gap, lock, out),
+answer(times, moment, gap, keep, lock, onward)
+"""
+
+MINDS = """
+begun_mind(net, times, person, wishes, asks, cares), at_look(mind, moment, ledger, box), held_by(mind), given_by(mind),
+known_by(mind)
+"""
+
+ROUTES = """
+is_route(net, payer, thing), walked(net, payer, route), sides(net, payer, route),
+payment_locks(net, payer, route, amount, image, ends), most_over(net, sheets, payer, route),
+routes(net, payer, payee, most), routes_for(net, sheets, payer, payee, amount, most), shortest(net, payer, payee),
+best_route(net, sheets, payer, payee, amount), widest(net, sheets, payer, payee), are_safe(times, ends),
+last_looks(times, ends), wish_for(times, route, amount, secret, moment, last)
+"""
+
+WORLDS = """
+begun_world(net, times, steady, wishes, asks, cares), forced(world), can_do(world, deed), is_choice(world, thing),
+next_world(world, choice), quiet(world), swift(world), sealed_in(world, channel), view_of(world, person)
+"""
+
 
 def functions_of(text):
     """The dict of the names of the functions and the lists of their arguments."""
@@ -64,4 +88,8 @@ FILES = {
     "offers": functions_of(OFFERS),
     "clocks": functions_of(CLOCKS),
     "watch": functions_of(WATCH),
+    "rules": functions_of(RULES),
+    "minds": functions_of(MINDS),
+    "routes": functions_of(ROUTES),
+    "worlds": functions_of(WORLDS),
 }

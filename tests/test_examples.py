@@ -4,10 +4,10 @@ import ast
 import pathlib
 import unittest
 
-from suredue import clocks, errors, ledger, letters, offers, settling, sheets, watch
+from suredue import clocks, errors, ledger, letters, minds, offers, routes, rules, settling, sheets, watch, worlds
 
 FOLDER = pathlib.Path(__file__).parent / "examples"
-MODULES = (sheets, ledger, letters, offers, clocks, settling, watch)
+MODULES = (sheets, ledger, letters, offers, rules, clocks, minds, routes, worlds, settling, watch)
 
 
 def cases(text):
@@ -52,13 +52,12 @@ class Examples(unittest.TestCase):
                         self.check_error(code, expected, names)
                     else:
                         self.assertEqual(repr(eval(code, names)), expected)
-        self.assertEqual(seen, 63)
+        self.assertEqual(seen, 95)
 
     def test_each_section_is_there(self):
-        self.assertEqual(
-            [path.stem for path in sorted(FOLDER.glob("*.txt"))],
-            ["04_sheets", "05_ledger", "06_letters", "07_offers", "09_clocks", "18_settling", "19_watch"],
-        )
+        sections = ["04_sheets", "05_ledger", "06_letters", "07_offers", "08_rules", "09_clocks", "10_minds", "11_routes"]
+        sections += ["12_worlds", "18_settling", "19_watch"]
+        self.assertEqual([path.stem for path in sorted(FOLDER.glob("*.txt"))], sections)
 
 
 if __name__ == "__main__":

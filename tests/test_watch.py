@@ -138,6 +138,7 @@ class Refused(unittest.TestCase):
         self.assertFalse(watch.is_enough(MOST, most - 1))
         self.assertEqual(watch.too_little(MOST, most - 1)[0], watch.worst_moment(MOST))
         self.assertEqual(watch.wait_wanted(((10000, 0, 1),)), 10000)
+        self.assertEqual(watch.wait_wanted(((99, 0, 1), (101, 0, 1))), 99)
         left = [at for at in range(4) if max(plain_waits(MOST[:at] + MOST[at + 1:]).values()) == most]
         self.assertEqual(watch.needless(MOST), tuple(left))
         self.assertEqual(watch.fewest(MOST, most), (2,))
