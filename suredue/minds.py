@@ -3,12 +3,10 @@
 from suredue.clocks import close_by, show_by
 from suredue.letters import channel_of
 from suredue.ledger import all_shown, was_shown
-from suredue.offers import begun_book, book_at_look, exposed, taken, wanting, wanting_just
+from suredue.offers import MOST_LOCKS, begun_book, book_at_look, exposed, taken, wanting, wanting_just
 from suredue.rules import answer, may_open
 from suredue.sheets import channels_of, is_opened, lock_of, person_of, side_of
 from suredue.values import ascending, frozen
-
-_MOST_LOCKS = 8
 
 
 def begun_mind(net, times, person, wishes, asks, cares):
@@ -117,7 +115,7 @@ class _Look:
         # Of two exposed SHEETS one has all LOCKS of the other one.
         many = max([len(page[3]) for page in pages]) + len(wanted)
         least = min([page[2][book[1]] for page in pages]) - sum([other[1] for other in wanted])
-        return many < _MOST_LOCKS and least >= lock[1]
+        return many < MOST_LOCKS and least >= lock[1]
 
     def learn(self, secret):
         """Has secret among the secrets."""

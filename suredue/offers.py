@@ -4,7 +4,7 @@ from suredue.errors import CanNot, Unfit
 from suredue.sheets import first_sheet, is_image, is_lock, is_sheet, lock_of
 from suredue.values import frozen, is_below, is_tuple_of, with_part
 
-_MOST_LOCKS = 8
+MOST_LOCKS = 8
 
 
 def is_change(thing):
@@ -21,7 +21,7 @@ def is_change(thing):
 def _with_lock(sheet, side, lock):
     """The SHEET of the next number to which side adds lock; Unfit() if it can't."""
     channel, number, sums, locks = sheet
-    if lock[0] != side or sums[side] < lock[1] or lock_of(sheet, lock[2]) is not None or len(locks) >= _MOST_LOCKS:
+    if lock[0] != side or sums[side] < lock[1] or lock_of(sheet, lock[2]) is not None or len(locks) >= MOST_LOCKS:
         raise Unfit()
     return (channel, number + 1, with_part(sums, side, sums[side] - lock[1]), locks + (lock,))
 

@@ -9,7 +9,6 @@ from suredue.offers import changed, in_turn
 from suredue.routes import is_route
 
 SECRETS = (1, 2, 3, 4)
-CARES = (0, 0, 0)
 
 
 def maker(seed):
@@ -48,8 +47,8 @@ def wishes(make, of, times, person, leave):
     return tuple(made) + tuple((leave, ("leave", own)) for own in range(len(of)) if person in of[own][:2])
 
 
-def begun(seed, many_steady=None, leave=40):
-    """A maker and a first world with enough wait, in which all steady ones leave all at last."""
+def begun(seed, many_steady=None, leave=40, care=0):
+    """A maker and what begun_world takes: enough wait, all steady ones leave all at last."""
     make = maker(seed)
     of = net(make, make.randint(2, 4), make.randint(1, 4))
     if make.random() < 0.3:
@@ -62,7 +61,20 @@ def begun(seed, many_steady=None, leave=40):
     every = range(max(here) + 1)
     asks = tuple(tuple((secret, make.randint(0, 3)) for secret in SECRETS if make.random() < 0.35) for _ in every)
     wanted = tuple(wishes(make, of, times, own, leave) if own in steady else () for own in every)
-    return make, worlds.begun_world(of, times, steady, wanted, asks, (CARES,) * len(every)), wanted
+    cares = tuple(tuple(make.randint(0, care) for _ in range(3)) for _ in every)
+    return make, (of, times, steady, wanted, asks, cares)
+
+
+def busy(moments=8):
+    """A world of a play: at moment 8 two closes are on the way, one that must come next, and letters were sent."""
+    of = ((0, 1, 50, 30), (1, 2, 20, 20), (5, 0, 0, 0))
+    payments = ((0, ("pay", (0, 1), 5, ("image", 7), (60, 50))), (0, ("pay", (0,), 3, ("image", 4), (50,))))
+    wanted = (payments + ((6, ("leave", 2)), (8, ("leave", 0))), ((4, ("leave", 1)),), (), (), (), ())
+    asks = ((), ((4, 2),), ((7, 1), (9, 2)), (), (), ((3, 1),))
+    world = worlds.begun_world(of, (3, 2, 4), (0, 1), wanted, asks, ((0, 0, 0),) * 6)
+    for moment in range(moments):
+        world = worlds.next_world(world, worlds.swift(world) if moment < 5 else worlds.quiet(world))
+    return world
 
 
 def fitting_offer(make, world, book):

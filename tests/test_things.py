@@ -4,8 +4,11 @@ import inspect
 import unittest
 
 import made_up
+import made_worlds
 import plain
-from suredue import ledger, letters, offers, sheets, watch
+import plain_rules
+import plain_worlds
+from suredue import ledger, letters, offers, routes, sheets, watch, worlds
 from support import DEEP, NO_NUMBER, NO_TUPLE, bends, listed, nested, put, wrong_kinds
 
 NET = ((0, 1, 50, 30), (1, 2, 20, 20), (5, 0, 0, 0))
@@ -18,6 +21,8 @@ BIG = 10 ** 40
 MORE = (0, 4, (25, 30), LOCKS + ((0, 5, ("image", 9), 11),))
 LESS = (0, 4, (30, 40), LOCKS[1:])
 WATCHERS = ((6, 0, 2), (4, 1, 3))
+WORLD = made_worlds.busy()
+SIGNED = (0, 1, (50, 30), ())
 
 RIGHT = {
     sheets.is_person: (0, 1, 7, 8, BIG),
@@ -63,6 +68,36 @@ RIGHT_BEHIND = {
         ((WATCHERS[:1], 6), (1, (8,))),
         ((WATCHERS[:1], 6), (601, (608,))),
     ),
+    routes.is_route: (
+        ((NET, 0), (0,)),
+        ((NET, 0), (0, 1)),
+        ((NET, 5), (2, 0, 1)),
+        ((NET, 2), (1, 0, 2)),
+        ((NET, 1), (0, 2)),
+    ),
+    worlds.is_choice: (
+        ((WORLD,), ((("late", 0),), ())),
+        (
+            (WORLD,),
+            (
+                (("late", 1), ("own", ("close", SIGNED)), ("late", 0), ("own", ("show", 2, 3)), ("own", ("show", 0, 7))),
+                (("sent", 0), ("sent", 5), ("sent", 0)),
+            ),
+        ),
+        (
+            (WORLD,),
+            (
+                (("own", ("close", (2, 0, (0, 0), ()))), ("late", 0), ("own", ("close", FIRST))),
+                (
+                    ("own", 2, 1, ("offer", (1, 1, (17, 20), ((0, 3, IMAGE, 9),)))),
+                    ("own", 5, 0, ("agree", (2, 3, (0, 0), ()))),
+                    ("own", 2, 0, ("turn", 0, 4)),
+                    ("own", 5, 1, ("secret", 0, 9)),
+                    ("own", 2, 1, ("pass", 2, IMAGE, (0,), (3,))),
+                ),
+            ),
+        ),
+    ),
 }
 
 PLAIN = {
@@ -80,6 +115,8 @@ PLAIN = {
     offers.is_book: plain.book,
     watch.is_watcher: plain.watcher,
     watch.is_too_little: plain.late_pair,
+    routes.is_route: plain_rules.is_route,
+    worlds.is_choice: plain_worlds.is_choice,
 }
 
 
