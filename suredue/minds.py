@@ -1,8 +1,8 @@
 """Minds: what a steady person holds and knows, and what it does at a look."""
 
 from suredue.clocks import close_by, show_by
-from suredue.letters import channel_of
 from suredue.ledger import all_shown, was_shown
+from suredue.letters import channel_of
 from suredue.offers import MOST_LOCKS, begun_book, book_at_look, exposed, taken, wanting, wanting_just
 from suredue.rules import answer, may_open
 from suredue.sheets import channels_of, is_opened, lock_of, person_of, side_of

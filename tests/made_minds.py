@@ -86,7 +86,9 @@ def fitting(make, of, times, books, moment):
         return told(make, of, times, here[0], moment)
     lock = make.choice(locks)
     ends = [own for own in range(lock[3] + 1) if clocks.enough_gap(times, lock[3], own)] or [0]
-    return (here[0], lock[2], (make.choice(others),), (max(ends[-1] + make.choice((0, 0, 0, -3, 1)), 0),))
+    far = make.choice((0, 0, 1, 2))
+    route = (make.choice(others),) + tuple(make.randrange(len(of)) for _ in range(far))
+    return (here[0], lock[2], route, (max(ends[-1] + make.choice((0, 0, 0, -3, 1)), 0),) + (moment,) * far)
 
 
 def pair(make, of, times, own, moment):

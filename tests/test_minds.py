@@ -312,6 +312,15 @@ class Answering(Looks):
         self.check({**given, "onward": ((0, SEVEN, (1,), (19,)),)}, 15)
         self.check({**given, "onward": ((0, SEVEN, (1,), (14,)),)}, 18, letters=self.ASKED)
 
+    def test_passed_on_far(self):
+        """What is told goes on without its first channel and end."""
+        given = {"books": books(book(inward(23)), book((1, 1, (10, 5), ())))}
+        fresh = outward(16, 2)
+        held = books(book(inward(23)), book((1, 1, (10, 5), ()), fresh))
+        letters = ((2, ("offer", fresh)), (2, ("pass", 1, SEVEN, (5, 6), (9, 3))))
+        told = {"books": held, "pairs": ((0, SEVEN, 1, (5, 6), (9, 3)),), "letters": letters}
+        self.check({**given, "onward": ((0, SEVEN, (1, 5, 6), (16, 9, 3)),)}, 15, **told)
+
     def test_not_passed_on(self):
         given = {"books": books(book(inward(20)), book((1, 1, (10, 5), ())))}
         told = (0, SEVEN, (1,), (14,))
@@ -398,6 +407,10 @@ class Paying(Looks):
         self.check_paid(given, 15, letters=secret, deeds=(("close", inward(20)),), left=(0,))
         self.check_not_paid(given, 18)
         self.check_not_paid({"pairs": given["pairs"]}, 12)
+        # Other LOCKS of the channel in count for nothing.
+        self.check_not_paid({**given, "books": (book(inward(30, 1, EIGHT)),)}, 12)
+        # Of an end in of 3 there is no look by which it could be closed for.
+        self.check_not_paid({**given, "books": (book(inward(3)),)}, 0)
         # One pair of two is not enough.
         self.check_not_paid({**given, "pairs": given["pairs"] + ((2, SEVEN, 1, (), ()),)}, 12, letters=secret)
         self.check_paid({**given, "pairs": given["pairs"] + ((None, SEVEN, 1, (), ()),)}, 12, letters=secret)

@@ -169,7 +169,10 @@ class Against(unittest.TestCase):
             for world in along for own, entry in zip(world[4], last[4]) if own is not None
         )
         seen["passed"] += any(pair[0] is not None for mind in last[5] for pair in mind[8])
-        seen["shown"] += any(entry is not None and entry[2] for entry in last[4])
+        shut = [entry for entry in last[4] if entry is not None]
+        seen["shown"] += any(entry[2] for entry in shut)
+        # A LOCK that was opened at its end.
+        seen["last"] += any((lock[2][1], lock[3]) in entry[2] for entry in shut for lock in entry[0][3])
         seen["doubled"] += any(len(set(letters)) < len(letters) for _, letters in made)
         for world, choice in zip(along, made):
             for place in (part[1] for part in choice[0] if part[0] == "late"):
@@ -187,7 +190,7 @@ class Against(unittest.TestCase):
                 self.assertGreaterEqual(ended(along[-1], person), first - paid, (seed, person))
                 seen["alone"] += paid == 0
                 seen["more"] += ended(along[-1], person) > first
-        for word in ("elder", "passed", "shown", "alone", "more", ("late", 1), ("late", 2), ("late", 3)):
+        for word in ("elder", "passed", "shown", "last", "alone", "more", ("late", 1), ("late", 2), ("late", 3)):
             self.assertGreater(seen[word], 10, seen)
         return seen
 

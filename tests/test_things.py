@@ -23,6 +23,8 @@ LESS = (0, 4, (30, 40), LOCKS[1:])
 WATCHERS = ((6, 0, 2), (4, 1, 3))
 WORLD = made_worlds.busy()
 SIGNED = (0, 1, (50, 30), ())
+# More channels and persons than the bounds.
+CHAIN = tuple((own, own + 1, BIG, 0) for own in range(20))
 
 RIGHT = {
     sheets.is_person: (0, 1, 7, 8, BIG),
@@ -74,6 +76,8 @@ RIGHT_BEHIND = {
         ((NET, 5), (2, 0, 1)),
         ((NET, 2), (1, 0, 2)),
         ((NET, 1), (0, 2)),
+        ((CHAIN, 0), tuple(range(20))),
+        ((CHAIN, 20), tuple(range(20))[::-1]),
     ),
     worlds.is_choice: (
         ((WORLD,), ((("late", 0),), ())),
@@ -94,6 +98,7 @@ RIGHT_BEHIND = {
                     ("own", 2, 0, ("turn", 0, 4)),
                     ("own", 5, 1, ("secret", 0, 9)),
                     ("own", 2, 1, ("pass", 2, IMAGE, (0,), (3,))),
+                    ("own", 2, 1, ("agree", (1, BIG, (0, 31), tuple((0, 1, ("image", own), BIG) for own in range(9))))),
                 ),
             ),
         ),
