@@ -127,7 +127,7 @@ def _is_figures(part):
     return part == "0" or part[0] != "0"
 
 
-class _Lines:
+class Lines:
     """The lines of a text, to be taken one after the other."""
 
     def __init__(self, text):
@@ -228,7 +228,7 @@ def _take_choice(lines):
 
 def net_read(text):
     """The NET with this text; BadText(line) for the first line that can not stand there."""
-    lines, net = _Lines(text), []
+    lines, net = Lines(text), []
     lines.numbers("net", 0)
     while net == [] or lines.are_left():
         channel = tuple(lines.numbers("channel", 4))
@@ -240,7 +240,7 @@ def net_read(text):
 
 def times_read(text):
     """The TIMES with this text; BadText(line) as net_read."""
-    lines = _Lines(text)
+    lines = Lines(text)
     delay, look, wait = lines.numbers("times", 3)
     if delay == 0 or look == 0:
         raise BadText(lines.taken)
@@ -250,7 +250,7 @@ def times_read(text):
 
 def sheet_read(text):
     """The SHEET with this text; BadText(line) as net_read."""
-    lines = _Lines(text)
+    lines = Lines(text)
     sheet = _take_sheet(lines, "sheet")
     lines.finish()
     return sheet
@@ -258,7 +258,7 @@ def sheet_read(text):
 
 def letters_read(text):
     """The tuple of LETTERS with this text; BadText(line) as net_read."""
-    lines, letters = _Lines(text), []
+    lines, letters = Lines(text), []
     while lines.are_left():
         letters.append(_take_letter(lines))
     return tuple(letters)
@@ -266,7 +266,7 @@ def letters_read(text):
 
 def deeds_read(text):
     """The tuple of DEEDS with this text; BadText(line) as net_read."""
-    lines, deeds = _Lines(text), []
+    lines, deeds = Lines(text), []
     while lines.are_left():
         deeds.append(_take_deed(lines))
     return tuple(deeds)
@@ -274,7 +274,7 @@ def deeds_read(text):
 
 def wishes_read(text):
     """The tuple of WISHES with this text; BadText(line) as net_read."""
-    lines, wishes = _Lines(text), []
+    lines, wishes = Lines(text), []
     while lines.are_left():
         wishes.append(_take_wish(lines))
     return tuple(wishes)
@@ -282,7 +282,7 @@ def wishes_read(text):
 
 def plan_read(text):
     """The PLAN with this text; BadText(line) as net_read."""
-    lines, plan = _Lines(text), []
+    lines, plan = Lines(text), []
     while lines.are_left():
         plan.append(_take_choice(lines))
     return tuple(plan)

@@ -15,7 +15,7 @@ def begun_mind(net, times, person, wishes, asks, cares):
     return frozen((net, times, person, cares, books, (), asks, (), (), wishes, ()))
 
 
-class _Look:
+class Look:
     """A look at a moment: the MIND in its parts, and what is handed in and sent."""
 
     def __init__(self, mind, moment, ledger):
@@ -308,7 +308,7 @@ class _Look:
 
 def at_look(mind, moment, ledger, box):
     """The triple of the MIND behind a look, of its DEEDS and of its pairs (to, letter)."""
-    look = _Look(frozen(mind), moment, frozen(ledger))
+    look = Look(frozen(mind), moment, frozen(ledger))
     look.read(frozen(box))
     look.begin_wishes()
     look.answer_locks()

@@ -83,7 +83,7 @@ def is_choice(world, thing):
     return _is_choice(frozen(world), thing)
 
 
-class _Day:
+class Day:
     """A WORLD on its way to the next moment, in its parts. All is made of tuples."""
 
     def __init__(self, world):
@@ -161,7 +161,7 @@ def begun_world(net, times, steady, wishes, asks, cares):
     minds = [begun_mind(net, times, person, wishes[person], asks[person], cares[person]) for person in steady]
     known = [ask[0] for person in range(len(asks)) if person not in steady for ask in asks[person]]
     boxes = [()] * len(steady)
-    day = _Day(frozen((net, times, steady, 0, begun_ledger(net), minds, boxes, (), (), (), known)))
+    day = Day(frozen((net, times, steady, 0, begun_ledger(net), minds, boxes, (), (), (), known)))
     day.look()
     return day.world()
 
@@ -175,7 +175,7 @@ def next_world(world, choice):
     deeds = [part[1] if part[0] == "own" else there[8][part[1]][1] for part in row]
     pages = [deed[1] for deed in deeds if deed[0] == "close"]
     late = [part[1] for part in row if part[0] == "late"]
-    day = _Day(there)
+    day = Day(there)
     day.come(deeds, late, [page for page in pages if _is_sealed(there, page)])
     day.bring(letters)
     if day.moment % day.times[1] == 0:

@@ -34,6 +34,7 @@ NO_NODES = (
     ast.Global, ast.AsyncFunctionDef, ast.AsyncFor, ast.AsyncWith, ast.Await, ast.TryStar, ast.Div, ast.MatMult,
 )
 PLAIN_NAME = re.compile("_?[a-zA-Z][a-zA-Z0-9_]*|_")
+CLASS_NAME = re.compile("[a-zA-Z][a-zA-Z0-9_]*")
 
 
 def docstrings(tree):
@@ -120,6 +121,9 @@ def name_breaches(tree):
             yield "L17", line
     own = [name for name, _ in bound]
     for node in ast.walk(tree):
+        # What is plain for all other names is not for a class: no underscore ahead.
+        if isinstance(node, ast.ClassDef) and not CLASS_NAME.fullmatch(node.name):
+            yield "L12", node.lineno
         if isinstance(node, ast.Name) and isinstance(node.ctx, ast.Load):
             if node.id == "_" or node.id not in own and node.id not in BUILTINS:
                 yield "L8", node.lineno

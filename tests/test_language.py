@@ -22,6 +22,21 @@ class Language(unittest.TestCase):
         for name, text in TEXTS.items():
             self.assertEqual(breaches("suredue", text), [], name)
 
+    def test_class_names_begin_with_a_letter(self):
+        seen = []
+        for name, text in TEXTS.items():
+            for word in re.findall("^class +([A-Za-z0-9_]+)", text, re.MULTILINE):
+                seen.append(word)
+                bent = re.sub(rf"\b{word}\b", f"_{word}", text)
+                at = 1 + bent[:bent.index(f"class _{word}")].count("\n")
+                self.assertIn(("L12", at), breaches("suredue", bent), (name, word))
+        for word in ("NoPlace", "Lines", "Look", "Day"):
+            self.assertIn(word, seen)
+
+    def test_one_underscore_stays_right_for_all_else(self):
+        text = "_A = 1\n\n\nclass Box:\n    def __init__(self, _n):\n        self._n = _n + _A\n"
+        self.assertEqual(breaches("suredue", text), [])
+
     def test_names_come_from_where_they_are_defined(self):
         for name, text in TEXTS.items():
             for source, wanted in imports_of("suredue", text).items():
@@ -56,6 +71,9 @@ class Language(unittest.TestCase):
             ("L10", "A = 1\n" * 400),
             ("L10", "# " + "x" * 119 + "\n"),
             ("L12", "def __f(x):\n    return x\n"),
+            ("L12", "class _Box:\n    def f(self):\n        return 1\n"),
+            ("L12", "def f():\n    return 1\n\n\nclass _B(ValueError):\n    def f(self):\n        return 1\n"),
+            ("L12", "class _:\n    def f(self):\n        return 1\n"),
             ("L14", "A = 1\t\n"),
             ("L15", "def f(sum):\n    return sum\n"),
             ("L15", "A = 1\nA = 2\n"),
