@@ -1,7 +1,7 @@
 """The ledger: what comes to it, what lies there, what is settled."""
 
 from suredue.errors import CanNot
-from suredue.sheets import first_sheet, has, is_opened, is_sheet
+from suredue.sheets import first_sheet, has, is_opened, is_sheet, people_of
 from suredue.values import are_unlike, ascending, at_place, frozen, is_below, is_from, is_tuple_of, with_part
 
 
@@ -45,7 +45,7 @@ def is_ledger(net, thing):
 
 def persons(net):
     """The set of the PERSONS of the CHANNELS of net."""
-    return ascending([person for channel in net for person in channel[:2]])
+    return people_of(net)
 
 
 def begun_ledger(net):

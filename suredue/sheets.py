@@ -1,6 +1,6 @@
 """Channels, locks and sheets."""
 
-from suredue.values import are_unlike, at_place, frozen, is_below, is_from, is_tuple_of
+from suredue.values import are_unlike, ascending, at_place, frozen, is_below, is_from, is_tuple_of
 
 
 def is_person(thing):
@@ -87,6 +87,11 @@ def side_of(net, channel, person):
 def channels_of(net, person):
     """The set of the channels in which person is."""
     return tuple([channel for channel in range(len(net)) if person in net[channel][:2]])
+
+
+def people_of(net):
+    """The set of the PERSONS of the CHANNELS of net."""
+    return ascending([person for channel in net for person in channel[:2]])
 
 
 def first_sheet(net, channel):

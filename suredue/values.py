@@ -55,6 +55,11 @@ def with_part(row, place, part):
     return row[:place] + (part,) + row[place + 1:]
 
 
+def is_set_from(thing, least):
+    """Whether thing is a set of numbers that are at least least."""
+    return are_from(thing, least) and thing == ascending(thing)
+
+
 def ascending(values):
     """The set of values: an ascending tuple without duplicates."""
     return tuple(sorted(set(values)))

@@ -70,6 +70,30 @@ begun_world(net, times, steady, wishes, asks, cares), forced(world), can_do(worl
 next_world(world, choice), quiet(world), swift(world), sealed_in(world, channel), view_of(world, person)
 """
 
+PAYMENTS = """
+people_on(net, payer, route), runs(sheets, image), fates(sheets, place, moment, image),
+tally(sheets, place, moment, image), tallies_of(world, image), wished(wishes, image), asked(asks, image),
+breaches(steady, wishes, asks, tallies, image)
+"""
+
+NETS = """
+most_paid(net, sheets, payer, payee), payments(net, sheets, payer, payee, amount),
+are_payments(net, sheets, payer, payee, thing), sums_behind(net, sheets, payer, row), held_out(net, sheets, persons),
+bar(net, sheets, payer, payee), is_bar(net, sheets, payer, payee, thing),
+most_without(net, sheets, payer, payee, persons), needed(net, sheets, payer, payee), locked_sums(net, sheets, person)
+"""
+
+DUES = """
+is_view(net, thing), can_lie(net, times, view, channel), closed_by(net, times, view, channel),
+is_case(net, times, view, thing), worth_of(net, times, view, case), worst_case(net, times, view),
+due_in(net, times, view), due(world, person)
+"""
+
+GAMES = """
+is_game(thing), is_game_plan(game, thing), ended(game, plan), least_end(game), worst_plan(game), is_safe(game),
+wait_tried(delay, look), in_end_tried(times, out_end)
+"""
+
 
 def functions_of(text):
     """The dict of the names of the functions and the lists of their arguments."""
@@ -92,4 +116,8 @@ FILES = {
     "minds": functions_of(MINDS),
     "routes": functions_of(ROUTES),
     "worlds": functions_of(WORLDS),
+    "payments": functions_of(PAYMENTS),
+    "nets": functions_of(NETS),
+    "dues": functions_of(DUES),
+    "games": functions_of(GAMES),
 }

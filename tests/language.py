@@ -24,6 +24,10 @@ METHODS = set(
     "items join keys ljust lower lstrip partition pop remove replace reverse rfind rjust rpartition rsplit rstrip "
     "setdefault split splitlines startswith strip update upper values zfill bit_length add discard sort".split()
 )
+NO_ATTRIBUTES = set(
+    "items keys values pop update append clear extend insert remove reverse setdefault sort args encode decode hex "
+    "fromhex format".split()
+)
 DOUBLE = set("__init__ __eq__ __repr__ __str__ __len__ __enter__ __exit__ __call__ __iter__".split())
 NOWHERE = set("register mro elements open input law version_info with_traceback add_note".split())
 NO_WORDS = set(
@@ -132,11 +136,16 @@ def name_breaches(tree):
                 yield "L17", node.lineno
 
 
-def code_breaches(tree):
-    """L4 to L7, L10, L20, L24, L25, L27."""
+def functions_in(tree):
+    """The names of all functions and methods of a file."""
+    return [node.name for node in ast.walk(tree) if isinstance(node, ast.FunctionDef)]
+
+
+def code_breaches(tree, methods):
+    """L4 to L7, L10, L20, L24, L25, L27; methods are the names of those of other files."""
     told = docstrings(tree)
     parents = {child: node for node in ast.walk(tree) for child in ast.iter_child_nodes(node)}
-    methods = [node.name for node in ast.walk(tree) if isinstance(node, ast.FunctionDef)]
+    methods = functions_in(tree) + list(methods)
     for node in ast.walk(tree):
         line = getattr(node, "lineno", 0)
         if isinstance(node, NO_NODES):
@@ -168,11 +177,25 @@ def code_breaches(tree):
                 yield "L25", line
 
 
-def breaches(package, text):
-    """The ascending list of the pairs (rule, line) of what is found in the text of a file."""
+def class_breaches(tree):
+    """L18, L26: what is a method and an attribute in one class, and names that no attribute has."""
+    for node in ast.walk(tree):
+        if isinstance(node, ast.ClassDef):
+            methods = [part.name for part in node.body if isinstance(part, ast.FunctionDef)]
+            for part in ast.walk(node):
+                if isinstance(part, ast.Attribute) and isinstance(part.ctx, ast.Store):
+                    if part.attr in methods:
+                        yield "L18", part.lineno
+                    if part.attr in NO_ATTRIBUTES:
+                        yield "L26", part.lineno
+
+
+def breaches(package, text, others=()):
+    """The ascending list of the pairs (rule, line) of what is found in the text of a file; others are those beside."""
     tree = ast.parse(text)
-    found = list(text_breaches(text)) + list(module_breaches(package, tree))
-    found += list(name_breaches(tree)) + list(code_breaches(tree))
+    methods = [name for other in others for name in functions_in(ast.parse(other))]
+    found = list(text_breaches(text)) + list(module_breaches(package, tree)) + list(class_breaches(tree))
+    found += list(name_breaches(tree)) + list(code_breaches(tree, methods))
     return sorted(set(found))
 
 

@@ -4,10 +4,14 @@ import ast
 import pathlib
 import unittest
 
-from suredue import clocks, errors, ledger, letters, minds, offers, routes, rules, settling, sheets, watch, worlds
+from suredue import clocks, dues, errors, games, ledger, letters, minds, nets, offers, payments, routes, rules
+from suredue import settling, sheets, watch, worlds
+from support import shape
 
 FOLDER = pathlib.Path(__file__).parent / "examples"
-MODULES = (sheets, ledger, letters, offers, rules, clocks, minds, routes, worlds, settling, watch)
+MODULES = (
+    sheets, ledger, letters, offers, rules, clocks, minds, routes, worlds, dues, games, payments, settling, watch, nets,
+)
 
 
 def cases(text):
@@ -34,8 +38,10 @@ class Examples(unittest.TestCase):
         error = raised(code, names)
         self.assertIsNotNone(error, code)
         self.assertIs(error.__class__, getattr(errors, call.func.id), code)
-        wanted = {part.arg: ast.literal_eval(part.value) for part in call.keywords}
-        self.assertEqual(vars(error), wanted, code)
+        # What an error keeps is told by its name or by its place.
+        told = [ast.literal_eval(part) for part in call.args]
+        wanted = error.__class__(*told, **{part.arg: ast.literal_eval(part.value) for part in call.keywords})
+        self.assertEqual(shape(vars(error)), shape(vars(wanted)), code)
 
     def test_all_examples_in_their_order(self):
         # Names stay from one section to the next.
@@ -51,12 +57,13 @@ class Examples(unittest.TestCase):
                     elif expected.startswith("raises "):
                         self.check_error(code, expected, names)
                     else:
-                        self.assertEqual(repr(eval(code, names)), expected)
-        self.assertEqual(seen, 95)
+                        # Strings are printed with either quote.
+                        self.assertEqual(shape(eval(code, names)), shape(ast.literal_eval(expected)))
+        self.assertEqual(seen, 131)
 
     def test_each_section_is_there(self):
         sections = ["04_sheets", "05_ledger", "06_letters", "07_offers", "08_rules", "09_clocks", "10_minds", "11_routes"]
-        sections += ["12_worlds", "18_settling", "19_watch"]
+        sections += ["12_worlds", "14_dues", "16_games", "17_payments", "18_settling", "19_watch", "20_nets"]
         self.assertEqual([path.stem for path in sorted(FOLDER.glob("*.txt"))], sections)
 
 

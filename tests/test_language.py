@@ -20,7 +20,7 @@ class Language(unittest.TestCase):
 
     def test_no_breaches(self):
         for name, text in TEXTS.items():
-            self.assertEqual(breaches("suredue", text), [], name)
+            self.assertEqual(breaches("suredue", text, TEXTS.values()), [], name)
 
     def test_class_names_begin_with_a_letter(self):
         seen = []
@@ -80,6 +80,8 @@ class Language(unittest.TestCase):
             ("L15", "from suredue.sheets import has\n\n\ndef f(has):\n    return has\n"),
             ("L17", "def f(open):\n    return open\n"),
             ("L17", "def f():\n    return 'a type'\n"),
+            ("L18", "class A:\n    def n(self):\n        self.n = 1\n"),
+            ("L26", "class A:\n    def __init__(self):\n        self.items = 1\n"),
             ("L20", "def f(a, b):\n    return a is b\n"),
             ("L24", "def f(a):\n    return set(a)\n"),
             ("L25", "def f(a):\n    return a.format_map(1)\n"),

@@ -6,9 +6,12 @@ import unittest
 import made_up
 import made_worlds
 import plain
+import plain_dues
+import plain_games
+import plain_payments
 import plain_rules
 import plain_worlds
-from suredue import ledger, letters, offers, routes, sheets, watch, worlds
+from suredue import dues, games, ledger, letters, nets, offers, routes, sheets, watch, worlds
 from support import DEEP, NO_NUMBER, NO_TUPLE, bends, listed, nested, put, wrong_kinds
 
 NET = ((0, 1, 50, 30), (1, 2, 20, 20), (5, 0, 0, 0))
@@ -23,6 +26,13 @@ LESS = (0, 4, (30, 40), LOCKS[1:])
 WATCHERS = ((6, 0, 2), (4, 1, 3))
 WORLD = made_worlds.busy()
 SIGNED = (0, 1, (50, 30), ())
+VIEW = (
+    0, 9, (SHUT, (FIRST, 9, ()), None), (MORE, None, (2, 5, (0, 0), ())), ((0, 1, (50, 30), ()), PAGE, MORE), (7, 8),
+    ((("close", MORE), 8), (("show", 1, 9), 0), (("show", 0, 8), BIG)),
+)
+LATE = ("channel", (2, 3, 3), (4, 9, 6), 5)
+MIDDLE = ("middle", (2, 1, 2), 5, 5, 3, 7)
+LATE_PLAN = ((("close", "in", 0), ("close", "in", 1)), (("close", "in", 0),), (), (), (("late", "in"),))
 # More channels and persons than the bounds.
 CHAIN = tuple((own, own + 1, BIG, 0) for own in range(20))
 
@@ -35,6 +45,10 @@ RIGHT = {
     sheets.is_lock: (LOCKS + ((0, 1, ("image", 0), 0), (1, BIG, ("image", BIG), BIG))),
     offers.is_change: (("pass",), ("add", LOCKS[0]), ("add", (1, BIG, ("image", BIG), 0)), ("pay", IMAGE), ("drop", IMAGE)),
     watch.is_watcher: ((1, 0, 1), (6, 5, 2), (BIG, BIG - 1, BIG), (101, 0, 101)),
+    games.is_game: (
+        LATE, MIDDLE, ("channel", (BIG, BIG, BIG), (0,) * 20, BIG), ("channel", (1, 1, 0), (BIG,), 0),
+        ("middle", (11, 12, 0), BIG, 0, BIG, 600),
+    ),
 }
 
 RIGHT_IN_NET = {
@@ -60,6 +74,7 @@ RIGHT_IN_NET = {
         (1, 1, (1, BIG, (20, 20), ()), None, False, (("pass",),) * 20),
         (1, 0, FIRST, None, False, (("pass",),)),
     ),
+    dues.is_view: (VIEW, (5, BIG, (None,) * 3, (None, None, (2, 0, (0, 0), ())), (), (BIG,), ()), put(VIEW, (4,), ())),
 }
 
 # What else stands ahead of the thing.
@@ -78,6 +93,29 @@ RIGHT_BEHIND = {
         ((NET, 1), (0, 2)),
         ((CHAIN, 0), tuple(range(20))),
         ((CHAIN, 20), tuple(range(20))[::-1]),
+    ),
+    nets.are_payments: (
+        ((NET, (PAGE, FIRST, (2, 0, (0, 0), ())), 0, 2), (((0, 1), 12), ((0, 1), 8))),
+        ((NET, (PAGE, FIRST, (2, 0, (0, 0), ())), 1, 0), (((0,), 30),)),
+        ((CHAIN, tuple((own, 0, (BIG, 0), ()) for own in range(20)), 0, 20), ((tuple(range(20)), BIG),)),
+    ),
+    nets.is_bar: (
+        ((NET, (PAGE, FIRST, (2, 0, (0, 0), ())), 0, 2), (0, 1)),
+        ((NET, (PAGE, FIRST, (2, 0, (0, 0), ())), 0, 2), (0, 1, 5, 9)),
+        ((NET, (PAGE, FIRST, (2, 0, (0, 0), ())), 5, 2), (5,)),
+    ),
+    dues.is_case: (
+        ((NET, (2, 3, 9), VIEW), ((MORE, None, (2, 5, (0, 0), ())), ((0, IMAGE), (0, ("image", 9))))),
+        ((NET, (2, 3, 9), put(VIEW, (2, 0, 2), ())), ((MORE, None, (2, 5, (0, 0), ())), ((0, ("image", 9)),))),
+        ((NET, (2, 3, 9), put(VIEW, (2, 0, 2), ())), ((MORE, None, (2, 5, (0, 0), ())), ())),
+        ((NET, (2, 3, 3), VIEW), ((PAGE, None, (2, 5, (0, 0), ())), ((0, IMAGE),))),
+    ),
+    games.is_game_plan: (
+        ((LATE,), LATE_PLAN),
+        ((MIDDLE,), (
+            (("close", "out", 1), ("show", "out"), ("show", "in")), (("close", "out", 0),),
+            (("late", "in"), ("close", "in", 1)), (("late", "show"),), (), (("show", "in"),), (),
+        )),
     ),
     worlds.is_choice: (
         ((WORLD,), ((("late", 0),), ())),
@@ -122,7 +160,15 @@ PLAIN = {
     watch.is_too_little: plain.late_pair,
     routes.is_route: plain_rules.is_route,
     worlds.is_choice: plain_worlds.is_choice,
+    nets.are_payments: plain_payments.are_payments,
+    nets.is_bar: plain_payments.is_bar,
+    dues.is_view: plain_dues.is_view,
+    dues.is_case: plain_dues.is_case,
+    games.is_game: plain_games.is_game,
+    games.is_game_plan: lambda game, thing: plain_games.behind_plan(game, thing) is not None,
 }
+# Of these () is one, too.
+MAYBE_EMPTY = (nets.are_payments,)
 
 
 def judged():
@@ -159,6 +205,7 @@ class Things(unittest.TestCase):
         for function, ahead, _ in judged():
             for thing in NO_TUPLE + NO_NUMBER + DEEP:
                 wanted = function is sheets.is_person and thing.__class__ is int and thing >= 0
+                wanted = wanted or function in MAYBE_EMPTY and thing.__class__ is tuple and thing == ()
                 self.check(wanted, function, ahead, thing)
 
     def test_one_part_of_a_wrong_kind(self):
