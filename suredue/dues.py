@@ -57,10 +57,10 @@ def is_view(net, thing):
 
 def _sight(net, times, view):
     """The Sight of view; Unfit() if it is no VIEW."""
-    parts, there = frozen(net), frozen(view)
-    if not is_view(parts, there):
+    there = frozen(view)
+    if not is_view(net, there):
         raise Unfit()
-    return Sight(parts, times, there)
+    return Sight(net, times, there)
 
 
 def _check_own(net, sight, channel):

@@ -2,10 +2,11 @@
 
 from suredue.errors import BadText
 from suredue.sheets import image_of, is_image, is_sheet
-from suredue.values import are_from, is_below, is_from, is_tuple_of
+from suredue.values import are_from, is_below, is_from, is_tuple_of, is_written
 
 _OF_SHEETS = ("offer", "agree")
 _OF_NUMBERS = ("turn", "secret")
+_MOST_FIGURES = 12
 
 
 def is_letter(net, thing):
@@ -119,14 +120,6 @@ def plan_text(plan):
     return _joined([_choice_lines(choice) for choice in plan])
 
 
-def _is_figures(part):
-    """Whether part is a number as it is written."""
-    # Python takes figures of other scripts for digits, too.
-    if not 1 <= len(part) <= 12 or not all([sign in "0123456789" for sign in part]):
-        return False
-    return part == "0" or part[0] != "0"
-
-
 class Lines:
     """The lines of a text, to be taken one after the other."""
 
@@ -155,7 +148,7 @@ class Lines:
         parts = self.lines[self.taken - 1].split(" ") if self.taken <= len(self.lines) else []
         if parts[:1] != [word] or len(parts) <= many or (len(parts) - 1 - many) % 2 > 0:
             raise BadText(self.taken)
-        if not all([_is_figures(part) for part in parts[1:]]):
+        if not all([is_written(part, _MOST_FIGURES) for part in parts[1:]]):
             raise BadText(self.taken)
         return [int(part) for part in parts[1:]]
 

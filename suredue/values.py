@@ -34,6 +34,14 @@ def are_unlike(values):
     return len(set(values)) == len(values)
 
 
+def is_written(part, most):
+    """Whether part is a number as it is written, in at most most figures."""
+    # Python takes figures of other scripts for digits, too.
+    if not 1 <= len(part) <= most or not all([sign in "0123456789" for sign in part]):
+        return False
+    return part == "0" or part[0] != "0"
+
+
 def frozen(value):
     """The value with a tuple for each list in it, at any depth."""
     # Results are made of tuples, and a list never equals a tuple, so whatever is compared or returned comes here first.

@@ -166,13 +166,18 @@ def begun_world(net, times, steady, wishes, asks, cares):
     return day.world()
 
 
+def deeds_in(world, row):
+    """The tuple of the DEEDS that come to the ledger by the row of a CHOICE. All is made of tuples."""
+    return tuple([part[1] if part[0] == "own" else world[8][part[1]][1] for part in row])
+
+
 def next_world(world, choice):
     """The WORLD behind choice; Unfit() if it is no CHOICE."""
     there, chosen = frozen(world), frozen(choice)
     if not _is_choice(there, chosen):
         raise Unfit()
     row, letters = chosen
-    deeds = [part[1] if part[0] == "own" else there[8][part[1]][1] for part in row]
+    deeds = deeds_in(there, row)
     pages = [deed[1] for deed in deeds if deed[0] == "close"]
     late = [part[1] for part in row if part[0] == "late"]
     day = Day(there)

@@ -1,4 +1,4 @@
-"""The interface of the files that have landed, as the document lists it."""
+"""The interface, as the document lists it."""
 
 SHEETS = """
 is_person(thing), is_times(thing), is_channel(thing), is_net(thing), is_image(thing), is_lock(thing),
@@ -94,6 +94,25 @@ is_game(thing), is_game_plan(game, thing), ended(game, plan), least_end(game), w
 wait_tried(delay, look), in_end_tried(times, out_end)
 """
 
+PLANS = """
+is_plan(world, thing), first_unfit(world, choices), played(world, plan), played_out(world, plan), rows_of(world, plan),
+quiet_plan(world, many), swift_plan(world, many), ends_of(world, plan), dues_along(world, plan, person),
+falls(world, plan, person)
+"""
+
+TAKINGS = """
+taking(kind, delay, look), takes_from(world, plan), is_taking(world, thing)
+"""
+
+JUDGE = """
+is_claim(thing), is_so(claim), paper(claim), is_paper_for(claim, thing), is_paper_against(claim, thing),
+verdicts(claims, things), comes_of(claim, claims), first_false(claims)
+"""
+
+SHELL = """
+shell(text), is_request(thing)
+"""
+
 
 def functions_of(text):
     """The dict of the names of the functions and the lists of their arguments."""
@@ -120,4 +139,8 @@ FILES = {
     "nets": functions_of(NETS),
     "dues": functions_of(DUES),
     "games": functions_of(GAMES),
+    "plans": functions_of(PLANS),
+    "takings": functions_of(TAKINGS),
+    "judge": functions_of(JUDGE),
+    "shell": functions_of(SHELL),
 }

@@ -65,6 +65,28 @@ def begun(seed, many_steady=None, leave=40, care=0):
     return make, (of, times, steady, wanted, asks, cares)
 
 
+def payment(seed):
+    """Like begun: 0 pays over a row of people, some of them steady ones, beside which the rest has channels, too."""
+    make = maker(seed)
+    many, image = make.randint(1, 3), ("image", 1)
+    delay, look = make.randint(1, 2), make.randint(1, 2)
+    times = (delay, look, clocks.least_wait(delay, look))
+    row = [(own, own + 1, make.randint(3, 9), make.randint(0, 4)) for own in range(many)]
+    beside = [(make.randint(0, many), many + 1, make.randint(0, 5), make.randint(0, 5)) for _ in range(make.randint(0, 2))]
+    # Each channel stands either way.
+    of = tuple(make.choice((own, (own[1], own[0], own[3], own[2]))) for own in row + beside)
+    steady = tuple(own for own in range(many + 1) if make.random() < 0.8) or (0,)
+    ends = clocks.least_ends(times, many, 34 * look)
+    ends = tuple(end + 4 * look * (many - at) for at, end in enumerate(ends)) if make.random() < 0.7 else ends
+    amount = make.randint(1, 4)
+    wanted = [[(make.randint(0, 3), ("pay", tuple(range(many)), amount, image, ends))]] + [[] for _ in range(many + 1)]
+    for own in steady:
+        wanted[own] += [(60 * look, ("leave", at)) for at in range(len(of)) if own in of[at][:2]]
+    asks = [((1, make.randint(1, amount)),) if own == many or make.random() < 0.05 else () for own in range(many + 1)] + [()]
+    wishes_of = tuple(tuple(own) for own in wanted)
+    return make, (of, times, steady, wishes_of, tuple(asks), ((0, 0, 0),) * (many + 2))
+
+
 def busy(moments=8):
     """A world of a play: at moment 8 two closes are on the way, one that must come next, and letters were sent."""
     of = ((0, 1, 50, 30), (1, 2, 20, 20), (5, 0, 0, 0))
@@ -173,9 +195,9 @@ def is_over(world):
     )
 
 
-def played(make, world, most=140):
+def played(make, world, most=140, bads=(0.0, 0.02, 0.06)):
     """The worlds of a made-up play, the last one over, and its choices."""
-    bad, busy = make.choice((0.0, 0.02, 0.06)), make.choice((0.2, 0.6, 0.9))
+    bad, busy = make.choice(bads), make.choice((0.2, 0.6, 0.9))
     along, made = [world], []
     while not is_over(along[-1]) and len(made) < most:
         made.append(choice(make, along[-1], bad, busy))

@@ -80,6 +80,17 @@ class Run:
         self.known = {secret for own in rest for secret, _ in asks[own]}
         self.look()
 
+    @classmethod
+    def at(cls, world):
+        """The run that goes on from a world."""
+        run = cls.__new__(cls)
+        run.net, run.times, run.steady, run.moment, run.ledger = world[:5]
+        run.minds = dict(zip(run.steady, world[5]))
+        run.boxes = {own: list(box) for own, box in zip(run.steady, world[6])}
+        run.sent = {part[:3]: part[3] for part in world[7]}
+        run.handed, run.signed, run.known = list(world[8]), set(world[9]), set(world[10])
+        return run
+
     def world(self):
         minds = tuple(self.minds[own] for own in self.steady)
         boxes = tuple(tuple(self.boxes[own]) for own in self.steady)

@@ -244,6 +244,8 @@ class Views(unittest.TestCase):
             check_gives(self, dues.is_view, (NET, own), False)
             self.assertIs(plain_dues.is_view(NET, own), False)
             check_raises(self, dues.due_in, (NET, TIMES, own), Unfit())
+        # One who is in no channel has no VIEW.
+        check_gives(self, dues.is_view, (NET, (3, 20, (None,) * 3, (None,) * 3, (), (), ())), False)
         # A list is no tuple for the one that judges, and one for the others.
         check_gives(self, dues.is_view, (NET, put(self.BUSY, (4,), [FIRST])), False)
         self.assertEqual(dues.due_in(NET, TIMES, put(self.BUSY, (4,), [FIRST])), 11)

@@ -4,13 +4,14 @@ import ast
 import pathlib
 import unittest
 
-from suredue import clocks, dues, errors, games, ledger, letters, minds, nets, offers, payments, routes, rules
-from suredue import settling, sheets, watch, worlds
+from suredue import clocks, dues, errors, games, judge, ledger, letters, minds, nets, offers, payments, plans, routes
+from suredue import rules, settling, sheets, shell, takings, watch, worlds
 from support import shape
 
 FOLDER = pathlib.Path(__file__).parent / "examples"
 MODULES = (
-    sheets, ledger, letters, offers, rules, clocks, minds, routes, worlds, dues, games, payments, settling, watch, nets,
+    sheets, ledger, letters, offers, rules, clocks, minds, routes, worlds, plans, dues, takings, games, payments, settling,
+    watch, nets, judge, shell,
 )
 
 
@@ -59,11 +60,12 @@ class Examples(unittest.TestCase):
                     else:
                         # Strings are printed with either quote.
                         self.assertEqual(shape(eval(code, names)), shape(ast.literal_eval(expected)))
-        self.assertEqual(seen, 131)
+        self.assertEqual(seen, 165)
 
     def test_each_section_is_there(self):
         sections = ["04_sheets", "05_ledger", "06_letters", "07_offers", "08_rules", "09_clocks", "10_minds", "11_routes"]
-        sections += ["12_worlds", "14_dues", "16_games", "17_payments", "18_settling", "19_watch", "20_nets"]
+        sections += ["12_worlds", "13_plans", "14_dues", "15_takings", "16_games", "17_payments", "18_settling", "19_watch"]
+        sections += ["20_nets", "21_judge", "22_shell"]
         self.assertEqual([path.stem for path in sorted(FOLDER.glob("*.txt"))], sections)
 
 

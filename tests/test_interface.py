@@ -17,6 +17,7 @@ class Interface(unittest.TestCase):
         numbers = {"sheets": 18, "ledger": 12, "settling": 8, "letters": 16, "offers": 12, "clocks": 11, "watch": 11}
         numbers.update({"rules": 6, "minds": 5, "routes": 13, "worlds": 9})
         numbers.update({"payments": 8, "nets": 10, "dues": 8, "games": 8})
+        numbers.update({"plans": 10, "takings": 3, "judge": 8, "shell": 2})
         self.assertEqual({name: len(functions) for name, functions in interface.FILES.items()}, numbers)
 
     def test_functions_have_their_arguments(self):

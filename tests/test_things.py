@@ -8,10 +8,14 @@ import made_worlds
 import plain
 import plain_dues
 import plain_games
+import plain_judge
 import plain_payments
+import plain_plans
 import plain_rules
+import plain_shell
 import plain_worlds
-from suredue import dues, games, ledger, letters, nets, offers, routes, sheets, watch, worlds
+from made_claims import AGAINST, FALSE, TRUE
+from suredue import dues, games, judge, ledger, letters, nets, offers, plans, routes, sheets, shell, takings, watch, worlds
 from support import DEEP, NO_NUMBER, NO_TUPLE, bends, listed, nested, put, wrong_kinds
 
 NET = ((0, 1, 50, 30), (1, 2, 20, 20), (5, 0, 0, 0))
@@ -33,6 +37,9 @@ VIEW = (
 LATE = ("channel", (2, 3, 3), (4, 9, 6), 5)
 MIDDLE = ("middle", (2, 1, 2), 5, 5, 3, 7)
 LATE_PLAN = ((("close", "in", 0), ("close", "in", 1)), (("close", "in", 0),), (), (), (("late", "in"),))
+# A taking from the moment on at which its letters have come.
+TAKING, WHOLE_PLAN = takings.taking("wait", 1, 2)
+HALF_TAKEN, TAKING_PLAN = plans.played_out(TAKING, WHOLE_PLAN[:2]), WHOLE_PLAN[2:]
 # More channels and persons than the bounds.
 CHAIN = tuple((own, own + 1, BIG, 0) for own in range(20))
 
@@ -49,6 +56,8 @@ RIGHT = {
         LATE, MIDDLE, ("channel", (BIG, BIG, BIG), (0,) * 20, BIG), ("channel", (1, 1, 0), (BIG,), 0),
         ("middle", (11, 12, 0), BIG, 0, BIG, 600),
     ),
+    judge.is_claim: TRUE + FALSE,
+    shell.is_request: ("steady 0 12", "net\n x", "quiet 0", "wishes 7\n \n  y", "moment"),
 }
 
 RIGHT_IN_NET = {
@@ -117,6 +126,13 @@ RIGHT_BEHIND = {
             (("late", "in"), ("close", "in", 1)), (("late", "show"),), (), (("show", "in"),), (),
         )),
     ),
+    plans.is_plan: (
+        ((WORLD,), ()),
+        ((WORLD,), (((("late", 0), ("own", ("show", 2, 3))), (("sent", 5), ("own", 5, 0, ("turn", 2, 4)))), ((("late", 0),), ()))),
+    ),
+    takings.is_taking: (((HALF_TAKEN,), TAKING_PLAN),),
+    judge.is_paper_for: tuple(((claim,), ()) for claim in TRUE),
+    judge.is_paper_against: tuple(((claim,), paper) for claim, paper in zip(FALSE, AGAINST)),
     worlds.is_choice: (
         ((WORLD,), ((("late", 0),), ())),
         (
@@ -166,9 +182,15 @@ PLAIN = {
     dues.is_case: plain_dues.is_case,
     games.is_game: plain_games.is_game,
     games.is_game_plan: lambda game, thing: plain_games.behind_plan(game, thing) is not None,
+    plans.is_plan: lambda world, thing: plain_plans.played(world, thing) is not None,
+    takings.is_taking: plain_plans.is_taking,
+    judge.is_claim: plain_judge.claim,
+    judge.is_paper_for: lambda claim, thing: plain_judge.verdict(claim, thing) == "for",
+    judge.is_paper_against: plain_judge.against,
+    shell.is_request: plain_shell.is_request,
 }
 # Of these () is one, too.
-MAYBE_EMPTY = (nets.are_payments,)
+MAYBE_EMPTY = (nets.are_payments, plans.is_plan, judge.is_paper_for)
 
 
 def judged():
