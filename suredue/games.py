@@ -190,11 +190,11 @@ class Board:
                     if fresh not in found:
                         found[fresh] = (before, row + (event,))
                         todo.append(fresh)
-        behind = {}
+        seen = {}
         for state in found:
             if self.is_done(state, moment):
-                behind.setdefault(self.looked(state, moment), found[state])
-        return behind
+                seen.setdefault(self.looked(state, moment), found[state])
+        return seen
 
     def layers(self):
         """The list of all states behind each moment, from 0 on, each with how it comes about."""

@@ -9,7 +9,7 @@ from suredue.worlds import deeds_in, is_choice, next_world, quiet, swift
 
 def _first_unfit(world, choices):
     """The place of the first of choices that is no CHOICE in the WORLD that came of those ahead; None if none is."""
-    there = frozen(world)
+    there = world
     for at in range(len(choices)):
         if not is_choice(there, choices[at]):
             return at
@@ -57,22 +57,23 @@ def rows_of(world, plan):
     return tuple([deeds_in(there, choice[0]) for there, choice in zip(along, _choices(plan))])
 
 
-def quiet_plan(world, many):
-    """The PLAN of so many CHOICES, each of them quiet."""
+def moved(world, many, choose):
+    """The pair of the PLAN of so many CHOICES, each as the function choose tells it, and of the WORLD behind it."""
     there, plan = frozen(world), ()
     for _ in range(many):
-        plan = plan + (quiet(there),)
+        plan = plan + (choose(there),)
         there = next_world(there, plan[-1])
-    return plan
+    return (plan, there)
+
+
+def quiet_plan(world, many):
+    """The PLAN of so many CHOICES, each of them quiet."""
+    return moved(world, many, quiet)[0]
 
 
 def swift_plan(world, many):
     """The PLAN of so many CHOICES, each of them swift."""
-    there, plan = frozen(world), ()
-    for _ in range(many):
-        plan = plan + (swift(there),)
-        there = next_world(there, plan[-1])
-    return plan
+    return moved(world, many, swift)[0]
 
 
 def ends_of(world, plan):

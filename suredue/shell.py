@@ -5,11 +5,11 @@ from suredue.errors import BadText, CanNot, NoPlace, Unfit
 from suredue.ledger import ends_with, lies
 from suredue.letters import net_read, plan_read, times_read, wishes_read
 from suredue.payments import fates, people_on, tallies_of
-from suredue.plans import played_out
+from suredue.plans import moved, played_out
 from suredue.settling import state_of
 from suredue.sheets import image_of, people_of
 from suredue.values import ascending, at_place, is_below, is_written, with_part
-from suredue.worlds import begun_world, next_world, quiet, sealed_in, swift
+from suredue.worlds import begun_world, quiet, sealed_in, swift
 
 _MOST_FIGURES = 7
 # How many numbers stand behind each word.
@@ -138,20 +138,6 @@ class Play:
         """The Play with another WORLD."""
         return Play(self.net, self.times, self.steady, self.wishes, self.asks, world)
 
-    def after_quiet(self, many):
-        """The Play so many quiet CHOICES later."""
-        world = self.world
-        for _ in range(many):
-            world = next_world(world, quiet(world))
-        return self.at(world)
-
-    def after_swift(self, many):
-        """The Play so many swift CHOICES later."""
-        world = self.world
-        for _ in range(many):
-            world = next_world(world, swift(world))
-        return self.at(world)
-
     def behind(self, request):
         """The Play behind a deed."""
         word, numbers, text = request.word, request.numbers, request.text
@@ -167,7 +153,7 @@ class Play:
             return self.with_ask(numbers[0], numbers[1], numbers[2])
         if word == "plan":
             return self.at(played_out(self.world, plan_read(text)))
-        return self.after_quiet(numbers[0]) if word == "quiet" else self.after_swift(numbers[0])
+        return self.at(moved(self.world, numbers[0], quiet if word == "quiet" else swift)[1])
 
     def ledger_told(self, channel):
         """The state of channel and, if it is closed, the number of the SHEET that lies there."""

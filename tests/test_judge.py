@@ -21,6 +21,7 @@ class Claims(unittest.TestCase):
         for claim in (
             ("wait", 1, 1, 0), ("whole", (), (), (), (), IMAGE), ("whole", (), ((),), ((),), ((0, 0),), IMAGE),
             ("least", LATE, 0), put(DUE, (4,), 0), put(SETTLED, (6,), ()), put(SETTLED, (7,), 3),
+            put(put(put(SETTLED, (3, 0, 1), 0), (5,), 0), (7,), 1),
             # Beyond the bounds.
             ("wait", 10 ** 30, 10 ** 30, 10 ** 30), put(SETTLED, (7,), 10 ** 30), put(LEAST, (1, 3), 10 ** 30),
         ):
@@ -37,7 +38,7 @@ class Claims(unittest.TestCase):
             put(DUE, (3, 3, 0), (0, 0, (6, 4), ())), put(WHOLE, (1,), (1, 0)), put(WHOLE, (1,), (0, 3)),
             put(WHOLE, (1,), (0, 0)), put(WHOLE, (2,), WISHES[:2]), put(WHOLE, (3,), ASKS + ((),)), put(WHOLE, (4,), ((0, 4),)),
             put(WHOLE, (3, 2, 0, 1), 0), put(WHOLE, (3, 2, 0), (7,)), put(WHOLE, (4, 1), (4, -1)), put(WHOLE, (4, 1), (4, 4, 0)),
-            put(WHOLE, (5,), 7), put(WHOLE, (2, 0, 0, 1, 1), ()), put(WHOLE, (2, 0, 0, 1, 2), 0),
+            put(WHOLE, (5,), 7), put(WHOLE, (2, 0, 0, 1, 1), ()), put(WHOLE, (2, 0, 0, 1), ("pay", (), 4, IMAGE, ())), put(WHOLE, (2, 0, 0, 1, 2), 0),
             put(WHOLE, (2, 0, 0, 1, 4), (20,)), put(WHOLE, (2, 0, 0, 1, 0), "leave"), put(WHOLE, (2, 0, 1, 1), ("leave", -1)),
             put(WHOLE, (2, 0, 1), ("leave", 0)), put(WHOLE, (2, 0, 1, 0), -1), put(SETTLED, (3,), (None,)),
             put(SETTLED, (3, 0, 1), 3), put(SETTLED, (3, 0, 2), ((7, 3),)), put(SETTLED, (4,), 1), put(SETTLED, (4,), -1),

@@ -1,4 +1,4 @@
-"""The shell: each request, what is refused, undo, and texts that are no requests; drawn ones beside a second telling."""
+"""The shell: each request, what is refused, undo, texts that are no requests; drawn ones beside a second telling."""
 
 import collections
 import random
@@ -31,6 +31,10 @@ class Replies(unittest.TestCase):
         self.check("", [])
         asked = "moment\nhanded\nsent\nknown\nledger 0\nends\ndue 0\nfates 0 7\ntally 0 7\ntally 1 7"
         self.check(asked, ["0", "0", "0", "-", "open", "0 0", "10", "-", "0 0", "0 0"])
+        # The wait is 1.
+        self.check("wishes 0\n leave 0 0\nhanded\nquiet 1\nledger 0\nquiet 1\nledger 0\nquiet 1\nledger 0", [
+            "done", "1", "done", "waiting 0", "done", "waiting 0", "done", "settled 0",
+        ])
         self.check("due 1\ndue 2\nledger 1\nfates 1 7\ntally 2 7\nundo", [
             "refused Unfit", "refused Unfit", "refused NoPlace", "refused NoPlace", "refused Unfit", "refused CanNot",
         ])
@@ -68,6 +72,10 @@ class Replies(unittest.TestCase):
             (9, "", "refused Unfit"), (9, "x", "refused BadText"), (3, "leave 0 2", "done"),
         ):
             self.check(f"{text}wishes {person}\n {wish}", ["done", "done", told])
+        # A sum is no PERSON.
+        self.check("net\n net\n channel 0 1 2 2\n channel 1 2 5 5\nwishes 2\n leave 3 0\nwishes 2\n leave 3 1", [
+            "done", "refused Unfit", "done",
+        ])
         # They are put in the place of the ones ahead.
         self.check("wishes 0\n leave 0 0\nwishes 0\n \nquiet 4\nledger 0", ["done", "done", "done", "open"])
         self.check("quiet 4\nwishes 0\n leave 9 0\nmoment\nquiet 10\nledger 0", ["done", "done", "0", "done", "waiting 0"])
