@@ -38,7 +38,8 @@ class Claims(unittest.TestCase):
             put(DUE, (3, 3, 0), (0, 0, (6, 4), ())), put(WHOLE, (1,), (1, 0)), put(WHOLE, (1,), (0, 3)),
             put(WHOLE, (1,), (0, 0)), put(WHOLE, (2,), WISHES[:2]), put(WHOLE, (3,), ASKS + ((),)), put(WHOLE, (4,), ((0, 4),)),
             put(WHOLE, (3, 2, 0, 1), 0), put(WHOLE, (3, 2, 0), (7,)), put(WHOLE, (4, 1), (4, -1)), put(WHOLE, (4, 1), (4, 4, 0)),
-            put(WHOLE, (5,), 7), put(WHOLE, (2, 0, 0, 1, 1), ()), put(WHOLE, (2, 0, 0, 1), ("pay", (), 4, IMAGE, ())), put(WHOLE, (2, 0, 0, 1, 2), 0),
+            put(WHOLE, (5,), 7), put(WHOLE, (2, 0, 0, 1, 1), ()), put(WHOLE, (2, 0, 0, 1), ("pay", (), 4, IMAGE, ())),
+            put(WHOLE, (2, 0, 0, 1, 2), 0),
             put(WHOLE, (2, 0, 0, 1, 4), (20,)), put(WHOLE, (2, 0, 0, 1, 0), "leave"), put(WHOLE, (2, 0, 1, 1), ("leave", -1)),
             put(WHOLE, (2, 0, 1), ("leave", 0)), put(WHOLE, (2, 0, 1, 0), -1), put(SETTLED, (3,), (None,)),
             put(SETTLED, (3, 0, 1), 3), put(SETTLED, (3, 0, 2), ((7, 3),)), put(SETTLED, (4,), 1), put(SETTLED, (4,), -1),
@@ -214,7 +215,8 @@ class ComesOf(unittest.TestCase):
 
     def test_all_else_is_alike(self):
         for claim, path, part in (
-            (LEAST, (1, 3), 9), (LEAST, (1, 2), (4, 9, 7)), (DUE, (1,), ((0, 1, 4, 6), (2, 3, 0, 0))), (DUE, (2, 2), 2), (DUE, (3, 5), (7,)),
+            (LEAST, (1, 3), 9), (LEAST, (1, 2), (4, 9, 7)), (DUE, (1,), ((0, 1, 4, 6), (2, 3, 0, 0))), (DUE, (2, 2), 2),
+            (DUE, (3, 5), (7,)),
             (WHOLE, (5,), ("image", 8)), (WHOLE, (4, 0, 1), 3), (WHOLE, (1,), (0, 1)), (SETTLED, (2, 2), 3), (SETTLED, (5,), 1),
             (SETTLED, (6,), ()), (SETTLED, (3, 0, 2), ((7, 2),)),
         ):
@@ -224,7 +226,9 @@ class ComesOf(unittest.TestCase):
             self.assertIs(judge.is_claim(other), True, other)
             self.check(other, claim, False)
             self.check(claim, other, False)
-            lesser = put(other, (len(other) - 1,), other[-1] + (1 if claim is SETTLED else -1)) if claim is not WHOLE else other
+            # By a lesser one of its own, too.
+            step = 1 if claim is SETTLED else -1
+            lesser = put(other, (len(other) - 1,), other[-1] + step) if claim is not WHOLE else other
             self.check(lesser, claim, False)
         for one in TRUE:
             for other in TRUE:

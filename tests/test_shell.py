@@ -44,7 +44,8 @@ class Replies(unittest.TestCase):
         text = "times\n times 2 1 2\nask 1 7 3\nwishes 0\n leave 0 0\nquiet 3\nledger 0\nknown\n" + NET
         told = ["done"] * 4 + ["waiting 0", "7", "done"]
         asked = "\nmoment\nknown\nends\ndue 0\nhanded\nsteady 0\nwishes 0\n leave 0 0\nquiet 1\nhanded\nquiet 1\nledger 0"
-        self.check(text + asked, told + ["0", "-", "0 0 0 0", "refused Unfit", "0", "done", "done", "done", "1", "done", "waiting 0"])
+        told += ["0", "-", "0 0 0 0", "refused Unfit", "0", "done", "done", "done", "1", "done", "waiting 0"]
+        self.check(text + asked, told)
         for bad in ("\n net", "\n net\n channel 0 0 5 5", "\n net\n channel 0 1 5", "\n net\n channel 0 1 5 5\n ", "\n "):
             self.check(f"net{bad}\ndue 0\nundo", ["refused BadText", "10", "refused CanNot"])
 
@@ -120,7 +121,8 @@ class Replies(unittest.TestCase):
         close = "choice\n close 0 1 10 8\n lock 1 2 7 9"
         text = f"plan\n {offer}\n {close}\nledger 0\nfates 0 7\nquiet 2\nledger 0\nquiet 5\nledger 0\nends\nfates 0 7"
         self.check(text + "\nquiet 1\nledger 0\nends\nfates 0 7\nmoment", [
-            "done", "waiting 1", "open", "done", "locked 1", "done", "locked 1", "0 0", "open", "done", "settled 1", "10 10", "void", "10",
+            "done", "waiting 1", "open", "done", "locked 1", "done", "locked 1", "0 0", "open", "done", "settled 1", "10 10",
+            "void", "10",
         ])
 
     def test_no_steady_one_in_the_channel(self):
@@ -214,7 +216,8 @@ class NoRequests(unittest.TestCase):
     def test_lines(self):
         for text, line in (
             ("quiet 1\n\nends", 2), ("quiet 1\n", 2), ("\n", 1), (" \nmoment", 1), (" moment", 1), ("moment\n moment", 1),
-            ("net\n net\n channel 0 1 5 5\nmoment\n \nx", 4), ("net\n net\n\n channel 0 1 5 5", 3), ("quiet 1\nquiet 1\nquiet 01", 3),
+            ("net\n net\n channel 0 1 5 5\nmoment\n \nx", 4), ("net\n net\n\n channel 0 1 5 5", 3),
+            ("quiet 1\nquiet 1\nquiet 01", 3),
             ("net\nmoment", 1), ("moment\nnet\n x\nsteady\nx", 4), ("x\ny", 1), ("net\n x\nwishes 12345678\n x", 3),
         ):
             with self.assertRaises(BadText) as caught:
